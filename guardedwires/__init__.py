@@ -1,0 +1,1 @@
+"""Guardedwires: what words that pass one another guard."""

@@ -1,0 +1,109 @@
+"""The examples of the document, section by section, as they stand there: each goes on with the names of those ahead."""
+
+import doctest
+import unittest
+
+EXAMPLES = {}
+
+EXAMPLES[4] = r'''
+>>> from guardedwires.words import independent, joined, passes, product, shows_independent, touched
+>>> [passes('+XZ', '-ZX'), passes('+XI', '+ZI'), product('+XI', '+YI'), product('+XX', '+ZZ'), joined(('+XX', '-ZZ')), touched('-IXZ')]
+[True, False, (1, 'ZI'), (2, 'YY'), '+YY', (1, 2)]
+>>> [independent(('+XX', '+ZZ', '+YY')), independent(('+XX', '-ZI')), shows_independent(('+X', '-X', '+Z'), ('product', (0, 1)))]
+[('product', (0, 1, 2)), ('independent',), True]
+'''
+
+EXAMPLES[5] = r'''
+>>> from guardedwires.gates import back, gates_of, led, same_gates, shows_gates_of, table
+>>> [led('+XI', ('cx 0 1',)), led('+YY', ('cx 0 1',)), led('+XX', ('cz 0 1',)), led('-Y', ('s 0', 'h 0')), back('+ZX', ('swap 0 1', 'h 0'))]
+['+XX', '-XZ', '+YY', '+Z', '+XX']
+>>> [table(1, ('h 0', 's 0')), same_gates(1, ('s 0', 's 0'), ('z 0',)), same_gates(2, ('cz 0 1',), ('h 1', 'cx 0 1', 'h 1')), same_gates(1, ('x 0',), ('z 0',))[0]]
+[(('+Z', '+Y'),), ('same',), ('same',), 'apart']
+>>> [table(2, gates_of((('+XX', '+ZI'), ('+IX', '+ZZ')))), shows_gates_of((('+Z', '+X'),), ('h 0',))]
+[(('+XX', '+ZI'), ('+IX', '+ZZ')), True]
+'''
+
+EXAMPLES[6] = r'''
+>>> from guardedwires.spans import firsts, made, parted, rank, shows_made, shows_word_gates, sizes, span_gates, within, word_gates
+>>> square = ('XXII', 'IIXX', 'ZIZI', 'IZIZ')
+>>> [rank(4, square), firsts(3, ('III', 'XYZ', 'XYZ', 'ZZI', 'YXZ')), sizes(4, square), sizes(2, ('XI', 'ZI')), sizes(2, ())]
+[4, (1, 3), (2, 1), (0, 1), (0, 0)]
+>>> [made(4, square, 'YXZI'), shows_made(2, ('XX', 'ZZ'), 'XI', ('bar', 'ZZ')), shows_made(2, ('XX', 'ZZ'), 'XI', ('bar', 'IX'))]
+[('made', (0, 2)), True, False]
+>>> [within(2, ('XX', 'YY'), ('XX', 'ZZ')), within(2, ('XX', 'IZ'), ('XX', 'ZZ'))[:2], parted(1, ('X', 'X'))]
+[('within',), ('apart', 1), (('X',), ())]
+>>> [span_gates(2, ('XI', 'ZI'), ('ZZ', 'IX'))[0], span_gates(2, ('XI', 'ZI'), ('XX', 'ZZ')), word_gates(2, ('+XI', '+ZI'), ('+XI', '-IZ'))]
+['gates', ('sizes', (0, 1), (2, 0)), ('crossing', 0, 1)]
+>>> shows_word_gates(1, ('+X',), ('-Z',), ('gates', ('h 0', 'x 0')))
+True
+'''
+
+EXAMPLES[7] = r'''
+>>> from guardedwires.unpassing import bare_on, carried, dressed_on, least_dressed, shows_bare_frame, shows_spared, spared
+>>> [carried(4, square), shows_bare_frame(4, square, (('XIXI', 'ZZII'),)), shows_bare_frame(4, square, (('XIIX', 'ZZII'),)), carried(2, ())]
+[1, True, False, 2]
+>>> [bare_on(4, square, (0, 1)), dressed_on(4, square, (2, 3))[0], bare_on(4, square, (0, 3)), dressed_on(4, square, (1, 2))[0], least_dressed(4, square)[0]]
+[(1, ('ZZII',)), 1, (0, ()), 2, 2]
+>>> [spared(4, square, (0,))[0], shows_spared(4, square, (0,), ('moved', (('IXIX', 'IIZZ'),))), shows_spared(4, square, (0, 1), ('dressed', 'YYII'))]
+['moved', True, True]
+'''
+
+EXAMPLES[8] = r'''
+>>> from guardedwires.guards import Guard, exchanged, group, in_steps, led_guard, same_group, side_by_side
+>>> three = Guard('wires 3\nguard +ZZI\nguard +IZZ')
+>>> four = Guard('wires 4\nguard +XXXX\nguard +ZZZZ')
+>>> [three.kept, len(four), '+ZIZ' in three, '-ZIZ' in three, group(three), in_steps(three).words]
+[1, 2, True, False, ('+III', '+IZZ', '+ZIZ', '+ZZI'), ('+ZIZ', '+IZZ')]
+>>> [same_group(three, in_steps(three)), same_group(three, led_guard(three, ('x 0',)))[0], led_guard(three, ('h 0', 'h 1', 'h 2')).words, exchanged(three, (1, 2, 0)).words]
+[('same',), 'signs', ('+XXI', '+IXX'), ('+ZIZ', '+ZZI')]
+>>> [four.with_word('+XXII').kept, four.without(0).words, side_by_side(three, Guard('wires 1')).words]
+[1, ('+ZZZZ',), ('+ZZII', '+IZZI')]
+'''
+
+EXAMPLES[9] = r'''
+>>> from guardedwires.kinds import alike_beside, kind, shows_kind, signs
+>>> [kind(three, '+ZIZ'), kind(three, '-III'), kind(three, '-ZZI'), kind(three, '+XII'), kind(three, '+XXX')[0], shows_kind(three, '+XXX', ('kept', '-IZI'))]
+[('guard', (0, 1)), ('contrary', ()), ('contrary', (0,)), ('seen', (0,)), 'kept', True]
+>>> [signs(three, 'IXI'), alike_beside(three, '+ZII', '+IIZ'), alike_beside(three, '+ZII', '-IZI'), alike_beside(three, '+ZII', '+XXX')[0]]
+[(0, 1), ('alike', (0, 1)), ('contrary', (0,)), 'unlike']
+'''
+
+EXAMPLES[10] = r'''
+>>> from guardedwires.frames import frame, same_frame, shows_frame, shows_turned_frame, told_in
+>>> pairs = (('+XXX', '+ZII'),)
+>>> [shows_frame(three, pairs), frame(Guard('wires 1\nguard +Z')), told_in(three, pairs, '+YYX'), told_in(three, pairs, '-IIZ'), same_frame(three, pairs, (('+XXX', '-IZI'),))]
+[True, (), ((0,), ()), ((), (0,)), ('signs', 0, 1)]
+>>> [shows_turned_frame(three, pairs, ('+ZII',), (('-YXX', '+IIZ'),)), shows_turned_frame(three, pairs, ('+ZII',), pairs)]
+[True, False]
+'''
+
+EXAMPLES[11] = r'''
+>>> from guardedwires.guards import Guard
+>>> from guardedwires.losing import apart, cleaned, least_lots, least_word, lost, lying, moved, shows_lost
+>>> pair, four = Guard('wires 2\nguard +ZZ'), Guard('wires 4\nguard +XXXX\nguard +ZZZZ')
+>>> five = Guard('wires 5\nguard +XZZXI\nguard +IXZZX\nguard +XIXZZ\nguard +ZXIXZ')
+>>> [lying(pair, (0,)), [len(part) for part in lying(four, (0, 1))], cleaned(four, (0,), 'XXII'), cleaned(pair, (0,), 'XX'), cleaned(pair, (0,), 'ZI')]
+[((), ('ZI',)), [0, 2], ('moved', (0,), 'IIXX'), ('barred', 'ZI'), ('moved', (0,), 'IZ')]
+>>> off = (('+IXXI', '+IIZZ'), ('+IIXX', '+IZZI'))
+>>> [lost(pair, (0,))[0], lost(four, (0,))[0], shows_lost(four, (0,), ('may', off)), moved(four, (1,), off)[0], least_lots(pair), len(least_lots(five))]
+['must not', 'may', True, ((0,), ()), ((0,), (1,)), 10]
+>>> [least_word(four)[0], least_word(five)[0], apart(four, (0,), (1,))[0], apart(pair, (0,), ())[0]]
+[2, 3, 'tied', 'apart']
+'''
+
+
+class Examples(unittest.TestCase):
+
+    def test_examples(self):
+        names = {}
+        for section, text in EXAMPLES.items():
+            test = doctest.DocTestParser().get_doctest(text, names, f"section {section}", None, 0)
+            told = []
+            result = doctest.DocTestRunner(verbose=False).run(test, out=told.append, clear_globs=False)
+            self.assertEqual(result.failed, 0, "".join(told))
+            self.assertGreater(result.attempted, 2)
+            names = test.globs
+
+
+if __name__ == "__main__":
+    unittest.main()

@@ -11,6 +11,11 @@ from guardedwires.values import is_tuple_of
 MOST_TURNS = 24
 
 
+def words_in(pairs):
+    """The words of these pairs, in sequence."""
+    return [word for pair in pairs for word in pair]
+
+
 def frame_of_rows(pairs, wires):
     """The pairs of words with + that have these rows."""
     return tuple([("+" + letters_of(one, wires), "+" + letters_of(mate, wires)) for one, mate in pairs])
@@ -26,7 +31,7 @@ def shows_frame(guard, value):
     """Whether this is a frame of the guard."""
     if not is_tuple_of(value, guard.kept) or not all([is_tuple_of(pair, 2) for pair in value]):
         return False
-    words = [word for pair in value for word in pair]
+    words = words_in(value)
     if not all([is_kept(guard.words, word, guard.wires) for word in words]):
         return False
     return cross_just_in_pairs([word[1:] for word in words], [])

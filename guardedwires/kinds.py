@@ -2,7 +2,7 @@
 
 from guardedwires.groups import is_kept, kind_of, need_kept, numbers_crossing, numbers_making, rows_of_words
 from guardedwires.groups import word_made
-from guardedwires.letters import by_letters, product_of, turned_sign, word_of, words_cross
+from guardedwires.letters import by_letters, product_passing, turned_sign, words_cross
 from guardedwires.needs import need_letters, need_word
 from guardedwires.rows import letters_of, row_crossing, row_of
 from guardedwires.values import is_exactly, is_numbers, is_told
@@ -49,9 +49,7 @@ def need_two_kept(guard, word, other):
 
 def times_guard(guard, word, numbers):
     """The product of this word, which passes the guard, with the guard's words with these numbers."""
-    made = word_made(guard.words, numbers, guard.wires)
-    quarters, letters = product_of([made, word], guard.wires)
-    return word_of(quarters, letters)
+    return product_passing(word_made(guard.words, numbers, guard.wires), word)
 
 
 def alike_beside(guard, word, other):

@@ -62,6 +62,12 @@ def word_of(quarters, letters):
     return ("-" if quarters == 2 else "+") + letters
 
 
+def product_passing(one, other):
+    """The product of two words that pass one another, so it is never bent."""
+    quarters, letters = product_of_two(one, other)
+    return word_of(quarters, letters)
+
+
 def turned_sign(word):
     """The word with the other sign."""
     return ("+" if word[0] == "-" else "-") + word[1:]

@@ -3,6 +3,8 @@
 MOST_WIRES = 6
 MOST_GATES = 400
 MOST_MAKERS = 12
+MOST_LOOKS = 99
+MOST_SINGLE_GATES = 60
 WIRES = ("0", "1", "2", "3", "4", "5")
 GATES_OF_ONE_WIRE = ("h", "s", "x", "z")
 GATES_OF_TWO_WIRES = ("cx", "cz", "swap")
@@ -105,6 +107,33 @@ def is_gates(value, wires):
     if not isinstance(value, tuple) or len(value) > MOST_GATES:
         return False
     return all([is_gate(gate, wires) for gate in value])
+
+
+def is_single_gates(value, wires):
+    """Whether it is none to sixty gates, all of one wire."""
+    if not isinstance(value, tuple) or len(value) > MOST_SINGLE_GATES:
+        return False
+    return all([is_gate(gate, wires) and len(gate.split(" ")) == 2 for gate in value])
+
+
+def is_looks(value, wires):
+    """Whether it is none to 99 words of so many wires."""
+    return is_words(value, 0, MOST_LOOKS, wires)
+
+
+def is_ascending(value):
+    """Whether each part of this tuple, all of them of one kind, is greater than the one ahead of it."""
+    return all([one < other for one, other in zip(value, value[1:])])
+
+
+def is_pairs(value):
+    """Whether it is a tuple of tuples of two."""
+    return isinstance(value, tuple) and all([is_tuple_of(pair, 2) for pair in value])
+
+
+def is_net(value, wires):
+    """Whether it is a net of so many wires."""
+    return is_pairs(value) and all([is_numbers(pair, wires) for pair in value]) and is_ascending(value)
 
 
 def is_makers(value, wires):

@@ -5,12 +5,14 @@ import random
 import unittest
 from itertools import combinations
 
-from guardedwires.guards import Guard
+from guardedwires.frames import frame, turned_frame
+from guardedwires.guards import Guard, group
 from tests.oracle import all_letters, by_letters, cross, is_independent
 
 NAMES = ("independent", "product", "same", "apart", "made", "bar", "within", "gates", "sizes", "crossing", "signs",
          "other", "moved", "dressed", "guard", "contrary", "seen", "kept", "alike", "unlike", "barred", "may",
-         "must not", "tied", "")
+         "must not", "tied", "table", "spoils", "none", "mended", "turned", "sure", "reads", "falls", "parts", "all",
+         "nothing", "part", "")
 
 
 class Thing:
@@ -185,6 +187,35 @@ def random_guard(chance, n, many):
             if is_independent([other[1:] for other in words] + [word[1:]], n):
                 words.append(word)
     assert len(words) == many
+    return Guard("\n".join([f"wires {n}"] + ["guard " + word for word in words]))
+
+
+def some_guard(turn, most=4):
+    """A Guard of one to so many wires; of all sizes, as turns go on."""
+    n = 1 + turn % most
+    return random_guard(random.Random(turn), n, (turn // most) % (n + 1))
+
+
+def turned_pairs(chance, guard):
+    """A frame of the guard that comes of one frame by some kept words."""
+    parts = [word[1:] for pair in frame(guard) for word in pair]
+    words = []
+    for _ in range(12 if parts else 0):
+        some = chance.sample(parts, chance.randrange(1, len(parts) + 1))
+        words.append(chance.choice("+-") + by_letters(some, guard.wires))
+    return turned_frame(guard, frame(guard), tuple(words))
+
+
+def liked_pairs(chance, guard, pairs, contraries=False):
+    """A frame whose words are alike to these beside the guard, some of them to their contraries, if that is wanted."""
+    words = sorted(group(guard))
+    told = [[product_word(chance.choice(words), word) for word in pair] for pair in pairs]
+    if contraries:
+        told = [[chance.choice("+-") + word[1:] for word in pair] for pair in told]
+    return tuple(tuple(pair) for pair in told)
+
+
+def guard_of(n, words):
     return Guard("\n".join([f"wires {n}"] + ["guard " + word for word in words]))
 
 

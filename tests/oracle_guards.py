@@ -6,7 +6,7 @@ Of a Guard only `wires` and `words` are read here.
 from functools import lru_cache
 from itertools import combinations
 
-from tests.oracle import (all_letters, all_lots, all_words, by_letters, contrary, cross, is_in, is_independent,
+from tests.oracle import (all_lots, all_words, by_letters, contrary, cross, is_in, is_independent,
                           is_letters, is_numbers, is_tuple, is_word, lone, misses, on, passing, same, sizes, some_of,
                           span, tells, weight, word_of, words_cross)
 

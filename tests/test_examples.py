@@ -91,6 +91,105 @@ EXAMPLES[11] = r'''
 [2, 3, 'tied', 'apart']
 '''
 
+EXAMPLES[12] = r'''
+>>> from guardedwires.counting import by_lots, of_group, of_passing, other_row
+>>> [of_group(four), of_passing(four), other_row((1, 0, 0, 0, 3)), other_row((1, 0, 18, 24, 21)), of_group(five)]
+[(1, 0, 0, 0, 3), (1, 0, 18, 24, 21), (1, 0, 18, 24, 21), (1, 0, 0, 0, 3), (1, 0, 0, 0, 15, 0)]
+>>> by_lots(pair)
+(((), 0, 0), ((0,), 0, 1), ((1,), 0, 1), ((0, 1), 1, 3))
+'''
+
+EXAMPLES[13] = r'''
+>>> from guardedwires.guards import Guard
+>>> from guardedwires.mending import answered, best_table, mended, most_mended, shows_best_table, shows_mended
+>>> from guardedwires.mending import shows_two_faults, two_faults
+>>> three = Guard('wires 3\nguard +ZZI\nguard +IZZ')
+>>> told = mended(three, ('III', 'IIX', 'IXI', 'XII'))
+>>> [told[0], [row[0] for row in told[1]], shows_mended(three, ('III', 'IIX', 'IXI', 'XII'), ('table', (((), 'III'), ((0,), 'XZZ'), ((0, 1), 'IXI'), ((1,), 'IIX'))))]
+['table', [(), (0,), (0, 1), (1,)], True]
+>>> [mended(three, ('III', 'ZII')), most_mended(three)[0], two_faults(three, 0), shows_two_faults(three, 1, ('IIX', 'IIY'))]
+[('spoils', 'III', 'ZII'), 0, None, True]
+>>> [answered(three, (((0,), 'XII'),), one) for one in ('XII', 'IXX', 'IXI', 'XZZ')]
+[('mended',), ('turned', 'XXX'), ('none',), ('mended',)]
+>>> [best_table(three, ('III', 'IIX', 'XXI'), (5, 2, 3))[0], shows_best_table(three, ('III', 'IIX', 'XXI'), (5, 2, 3), (8, (((), 'III'), ((1,), 'XXI'))))]
+[8, True]
+>>> five = Guard('wires 5\nguard +XZZXI\nguard +IXZZX\nguard +XIXZZ\nguard +ZXIXZ')
+>>> [most_mended(five)[0], two_faults(five, 1), two_faults(five, 2) is None]
+[1, None, False]
+'''
+
+EXAMPLES[14] = r'''
+>>> from guardedwires.guards import Guard
+>>> from guardedwires.looks import along, foretold, gone, looked, went
+>>> one = Guard('wires 2\nguard +ZI')
+>>> [foretold(one, 'ZI'), foretold(one, 'IZ'), foretold(one, 'XX')]
+[('sure', '+'), ('reads',), ('falls', 0)]
+>>> looked(one, '-XX').words
+('-XX',)
+>>> went(one, (('+IX', '+IZ'),), '+XX')
+(('+IX', '+ZZ'),)
+>>> [along(one, ('+XX', '+YI', '+ZI')).words, gone(one, (('+IX', '+IZ'),), ('+XX', '+YI', '+ZI'))]
+[('+ZI',), (('+IX', '-IY'),)]
+'''
+
+EXAMPLES[15] = r'''
+>>> from guardedwires.guards import Guard
+>>> from guardedwires.fewest import absent_and_crossing, fewest
+>>> [absent_and_crossing(Guard('wires 1\nguard +Z'), Guard('wires 1\nguard ' + word)) for word in ('+Z', '+X', '-Z')]
+[(0, 0), (1, 1), (1, 0)]
+>>> fewest(Guard('wires 1\nguard +Z'), Guard('wires 1\nguard -Z'))[0]
+2
+>>> fewest(Guard('wires 2\nguard +ZI'), Guard('wires 2\nguard +IZ'))[0]
+2
+'''
+
+EXAMPLES[16] = r'''
+>>> from guardedwires.guards import Guard
+>>> from guardedwires.looks import gone
+>>> from guardedwires.steering import shows_steer, shows_turned_by, steer
+>>> one = Guard('wires 2\nguard +ZI')
+>>> shows_turned_by(one, (('+IX', '+IZ'),), '+IX', (('+XX', '+YI', '+ZI'), (('+IX', '-IY'),)))
+True
+>>> shows_steer(one, (('+IX', '+IZ'),), (('+IX', '+ZZ'),), ())
+True
+>>> gone(one, (('+IX', '+IZ'),), steer(one, (('+IX', '+IZ'),), (('+IZ', '+IX'),)))[0][0] in ('+IZ', '+ZZ')
+True
+'''
+
+EXAMPLES[17] = r'''
+>>> from guardedwires.reading import behind, first_reading, read_alike, reads, shows_reads
+>>> [shows_reads(four, ('+XXII',), (('-IIXX',), (('+XIXI', '+ZZII'),))), shows_reads(four, ('+XXII',), (('+XXII',), (('+XXII', '+ZIZI'),)))]
+[True, False]
+>>> [behind(three, ('-XII', '+ZZI')).words, first_reading(three, ('+ZII', '+XXX')), first_reading(four, ('+XIII', '+ZIII')), read_alike(four, ('+XXII',), ('-IIXX', '+XXXX'))]
+[('+ZIZ', '+IZZ'), 0, None, ('alike',)]
+'''
+
+EXAMPLES[18] = r'''
+>>> from guardedwires.holders import blind_holders, can_tell, least_holders, shows_told_on, told_on
+>>> parted = ((0, 1), (2, 3), (4,))
+>>> [shows_told_on(four, (0, 1), ((), (('+XXII', '+IIXX'), ('+ZZII', '+IIZZ')), ())), [len(part) for part in told_on(five, (0, 1, 2))], [len(part) for part in told_on(pair, (0,))]]
+[True, [1, 0, 0], [0, 1, 0]]
+>>> [least_holders(five, parted), blind_holders(five, parted), can_tell(five, parted, (0, 2)), can_tell(five, parted, ()), can_tell(four, ((0, 1), (2, 3)), (1,))]
+[((0, 1), (0, 2), (1, 2)), ((0,), (1,), (2,)), 'all', 'nothing', 'part']
+'''
+
+EXAMPLES[19] = r'''
+>>> from guardedwires.sharing import brought, shared, shows_brought
+>>> bell = Guard('wires 2\nguard +XX\nguard +ZZ')
+>>> [shared(bell, (0,)), shared(pair, (0,)), shared(four, (0, 1)), shared(five, (0, 1)), shows_brought(bell, (0,), ((), ())), shows_brought(pair, (1,), (('h 1',), ('h 0',)))]
+[(1, 0, 0, 0), (0, 1, 0, 0), (0, 2, 0, 0), (2, 0, 0, 0), True, False]
+'''
+
+EXAMPLES[20] = r'''
+>>> from guardedwires.nets import as_net, cut, cuts, net_guard, shows_as_net
+>>> line, star = ((0, 1), (1, 2), (2, 3)), ((0, 1), (0, 2), (0, 3))
+>>> [net_guard(3, ((0, 1), (1, 2))).words, cut(4, line, (0, 2)), cut(4, star, (0, 2)), cuts(2, ((0, 1),))]
+[('+XZI', '+ZXZ', '+IZX'), 2, 1, (((0,), 1), ((0, 1), 0))]
+>>> pair = Guard('wires 2\nguard +XX\nguard +ZZ')
+>>> [shows_as_net(pair, (((0, 1),), ('h 1',))), shows_as_net(pair, (((0, 1),), ())), as_net(pair)[0]]
+[True, False, ((0, 1),)]
+'''
+
 
 class Examples(unittest.TestCase):
 

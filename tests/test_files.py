@@ -13,7 +13,7 @@ BUILTINS = {"len", "range", "enumerate", "zip", "min", "max", "sum", "abs", "sor
             "list", "tuple", "dict", "isinstance", "ord", "repr", "any", "all", "divmod", "ValueError"}
 # Running examples binds _ among the builtins, so it is left out here.
 ALL_BUILTINS = set(vars(builtins)) - {"_"}
-METHODS = {"append", "split", "strip", "join", "startswith", "index", "count", "bit_length", "with_word", "without"}
+METHODS = {"append", "get", "split", "strip", "join", "startswith", "index", "count", "bit_length", "with_word", "without"}
 BARRED = ["register", "mro", "elements", "open", "input", "law", "version_info", "with_traceback", "add_note"]
 UNSEEN = (ast.GeneratorExp, ast.Lambda, ast.Set, ast.SetComp, ast.Try, ast.Global, ast.Nonlocal, ast.Starred, ast.Yield,
           ast.YieldFrom, ast.AsyncFunctionDef, ast.Import, ast.With, ast.Match, ast.NamedExpr, ast.Delete, ast.AugAssign)

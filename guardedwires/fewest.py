@@ -99,7 +99,7 @@ def numbers(guard, goal, looks):
 def need_same_letters(guard, goal):
     """OtherWires, OtherMany; OtherLetters unless the groups are alike but for signs."""
     need_goal(guard, goal)
-    if None in [word_in_group(goal.words, word[1:]) for word in guard.words]:
+    if any([word_in_group(goal.words, word[1:]) is None for word in guard.words]):
         raise OtherLetters(goal)
 
 

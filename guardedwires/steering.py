@@ -4,7 +4,7 @@ from guardedwires.errors import NoWords
 from guardedwires.frames import need_frame, same_frame, words_in
 from guardedwires.groups import is_like_but_sign, need_kept, rows_of_words
 from guardedwires.kinds import alike_beside
-from guardedwires.letters import by_letters, letters_cross, turned_sign, words_cross
+from guardedwires.letters import by_letters, letters_cross, words_cross
 from guardedwires.needs import need_word
 from guardedwires.rows import letters_of, row_crossing
 from guardedwires.stepping import all_behind, leads_over
@@ -99,10 +99,8 @@ def sign_looks(guard, pairs, other):
         return ()
     letters = letters_crossing(list(guard.words) + came, [0] * len(guard.words) + wrong, guard.wires)
     there = three_looks(guard, pairs, letters)
-    # Turned twice the letters are as they were; the sign heard at one look decides upon their signs.
-    if same_frame(guard, behind_looks(guard, pairs, there + there), other) == ("same",):
-        return there + there
-    return there + (turned_sign(there[0]), there[1], there[2])
+    # What crosses the letters is multiplied by them with an odd number of quarters, so twice this turns its sign.
+    return there + there
 
 
 def need_steerable(guard, pairs, other):

@@ -122,7 +122,7 @@ def is_looks(value, wires):
 
 
 def is_ascending(value):
-    """Whether each part of this tuple, all of them of one kind, is greater than the one ahead of it."""
+    """Whether each of these parts, all of one kind, is greater than the one ahead of it."""
     return all([one < other for one, other in zip(value, value[1:])])
 
 

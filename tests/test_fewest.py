@@ -109,6 +109,9 @@ class Fewest(Checking):
         for value in ((1, ("-X",)), (True, ("+X",)), (1, ["+X"]), [1, ("+X",)], (1, "+X"), (2, ("+X", "+X")), (1, ()),
                       (1, ("+X", "+X")), (3, ("+X", "+Z", "+X")), (1, ("X",)), (1, ("+XX",)), (1, ("+Z",)), (0, ())):
             self.assertIs(shows_fewest(Z, X, value), False, value)
+        for looks in (("+X", "+Z", "+X"), ("+Y", "+X")):
+            self.assertIs(shows_fewest(Z, X, (1, looks)), False)
+            self.assertIs(shows_fewest(Z, X, (len(looks), looks)), False)
         self.assertIs(shows_fewest(Z, Z, (0, ())), True)
         self.assertIs(shows_fewest(Z, Z, (False, ())), False)
         # A look at a word of the group is none of a seen word.
@@ -121,6 +124,19 @@ class Fewest(Checking):
             looks = fewest(guard, some_goal(chance, guard))[1]
             heard = tuple(chance.choice((word, contrary(word))) for word in looks)
             self.assertIsNone(all_went(guard.words, (), heard)[2])
+
+    def test_much_that_is_absent_and_does_not_cross(self):
+        for words, goal in ((("+ZIII", "+IZII"), ("+IIZI", "+IIIZ")), (("+ZIII", "+IZII"), ("-ZIII", "+IIIZ")),
+                            (("+XXII", "+ZZII"), ("-IIXX", "+IIZZ")), (("+ZII", "+IZI"), ("-ZII", "+IIZ"))):
+            n = len(words[0]) - 1
+            for turn in range(12):
+                gates = random_gates(random.Random(turn), n, 8)
+                mine = multiplied(random.Random(turn), led_guard(guard_of(n, words), gates))
+                its = multiplied(random.Random(turn + 1), led_guard(guard_of(n, goal), gates))
+                self.assertEqual(absent_and_crossing(mine, its), (2, 0))
+                told = fewest(mine, its)
+                self.assertTrue(right_fewest(mine, its, told))
+                self.assertIs(shows_fewest(mine, its, told), True)
 
     def test_numbers(self):
         for turn in range(80):

@@ -115,6 +115,22 @@ class Reading(Checking):
                       ((), value[1]), (("+ZZII",), value[1]), (("-IIXX",), (("+XIXI", "+IXXI"),)), (("-IIXX",), ())):
             self.assertIs(shows_reads(FOUR, ("+XXII",), other), False, other)
 
+    def test_words_of_read_are_independent(self):
+        looks = ("+XXII", "+ZZII")
+        for read_words, wanted in ((("+XXII", "-IIZZ"), True), (("+YYII", "+ZZII"), True), (("+XXII", "-IIXX"), False),
+                                   (("+XXII", "+XXII"), False), (("+XXII",), False), (("+XXII", "+XIXI"), False),
+                                   (("+XXII", "+ZZII", "+YYII"), False), (("+XXII", "+XXXX"), False)):
+            self.assertIs(shows_reads(FOUR, looks, (read_words, ())), wanted)
+        self.assertIs(shows_reads(FOUR, looks[:1], (("+XXII",), ())), False)
+        self.assertIs(shows_reads(FOUR, looks[:1], ((), (("+XIXI", "+ZZII"), ("+XXII", "+ZIZI")))), False)
+
+    def test_alike_is_shown_just_where_it_is_so(self):
+        for looks, other, wanted in (((), ("+ZI",), False), (("+ZI",), ("-IZ",), True), (("+XX",), ("+ZI",), False),
+                                     ((), ("+XI",), True), (("+XX", "+ZI"), ("-YY",), True)):
+            self.assertIs(shows_read_alike(TWO, looks, other, ("alike",)), wanted)
+            self.assertIs(shows_read_alike(TWO, other, looks, ("alike",)), wanted)
+            self.assertEqual(read_alike(TWO, looks, other) == ("alike",), wanted)
+
     def test_first_reading(self):
         found = []
         for turn in range(120):

@@ -11,7 +11,7 @@ from guardedwires.looks import gone
 from guardedwires.steering import shows_steer, shows_turned_by, steer, turned_by
 from tests.checking import (Checking, guard_of, liked_pairs, multiplied, random_gates, random_guard, some_guard,
                             some_near, turned_pairs)
-from tests.oracle import all_words, contrary, is_word, led
+from tests.oracle import all_words, contrary, is_word, led, words_cross
 from tests.oracle_guards import kept_words, kind_name, right_frame
 from tests.oracle_looks import all_went, right_steer, right_turned_by
 
@@ -67,6 +67,22 @@ class Steering(Checking):
                             ("+IX", (("+XX", "+YI", "+YI"), later)), ("+IX", (("+ZI", "+XI", "+ZI"), PAIRS)),
                             ("+IX", (BACK, later[0]))):
             self.assertIs(shows_turned_by(ONE, PAIRS, word, value), False, value)
+
+    def test_rows_of_more_and_fewer_looks(self):
+        for looks, pairs in ((BACK + ("+XI", "+ZI"), PAIRS), (BACK[:2], PAIRS), (("+XI", "+ZI"), PAIRS), ((), PAIRS),
+                             (("+XI", "+ZI") + BACK, PAIRS)):
+            self.assertIs(shows_turned_by(ONE, pairs, "+IX", (looks, all_went(ONE.words, pairs, looks)[1])), False)
+
+    def test_turned_twice_by_the_same_looks(self):
+        for turn in range(40):
+            guard = keeping(turn)
+            chance = random.Random(turn)
+            pairs = turned_pairs(chance, guard)
+            word = chance.choice(sorted(kept_words(guard)))
+            looks = turned_by(guard, pairs, word)[0]
+            wanted = tuple(tuple(contrary(one) if words_cross(one, word) else one for one in pair) for pair in pairs)
+            self.assertEqual(same_frame(guard, gone(guard, pairs, looks + looks), wanted), ("same",))
+            self.assertIs(shows_steer(guard, pairs, wanted, looks + looks), True)
 
     def test_nothing_is_read_however_answers_fall(self):
         for turn in range(40):

@@ -5,6 +5,7 @@ MOST_GATES = 400
 MOST_MAKERS = 12
 MOST_LOOKS = 99
 MOST_SINGLE_GATES = 60
+MOST_NAME = 8
 WIRES = ("0", "1", "2", "3", "4", "5")
 GATES_OF_ONE_WIRE = ("h", "s", "x", "z")
 GATES_OF_TWO_WIRES = ("cx", "cz", "swap")
@@ -39,6 +40,11 @@ def is_exactly(value, wanted):
     if isinstance(wanted, str):
         return isinstance(value, str) and value == wanted
     return is_integer(value) and value == wanted
+
+
+def is_name(value):
+    """Whether it is a string of one to eight letters a to z."""
+    return isinstance(value, str) and 1 <= len(value) <= MOST_NAME and value.strip("abcdefghijklmnopqrstuvwxyz") == ""
 
 
 def is_letters(value, wires):

@@ -5,14 +5,17 @@ import random
 import unittest
 from itertools import combinations
 
+from guardedwires.desk import Desk
 from guardedwires.frames import frame, turned_frame
 from guardedwires.guards import Guard, group
+from guardedwires.machine import Machine
 from tests.oracle import all_letters, by_letters, cross, is_independent
 
 NAMES = ("independent", "product", "same", "apart", "made", "bar", "within", "gates", "sizes", "crossing", "signs",
          "other", "moved", "dressed", "guard", "contrary", "seen", "kept", "alike", "unlike", "barred", "may",
          "must not", "tied", "table", "spoils", "none", "mended", "turned", "sure", "reads", "falls", "parts", "all",
-         "nothing", "part", "")
+         "nothing", "part", "turns", "word", "flow", "stuck", "layers", "keeps", "out", "wires", "choice", "gate", "leave",
+         "look", "lost", "told", "")
 
 
 class Thing:
@@ -30,8 +33,8 @@ def junk():
             ("X",), ("XX", "ZZ"), ("+X",), ("+XX", "+ZZ"), ("h 0",), ("h 0", "x 9"), ("s 5",), (None,), ((),),
             (((),),), (("+X", "+Z"),), (("+X", "+Z", "+Y"),), ["+X", "+Z"], (["+X", "+Z"],), ("same",), ["same"],
             ("gates", ()), [], [()], [0], ["X"], {}, {"X": 0}, {0: "+X"}, THING, (THING,), Guard("wires 1"),
-            Guard("wires 2\nguard +ZZ"), (Guard("wires 1"),), deep_tuple(30), [[[["X"]]]], "h 0\n", "+X\n", "X\n",
-            ("h 0",) * 401, ("X",) * 13, ("+X",) * 13]
+            Guard("wires 2\nguard +ZZ"), (Guard("wires 1"),), Machine(Guard("wires 1")), Desk("wires 1\nmachine"),
+            deep_tuple(30), [[[["X"]]]], "h 0\n", "+X\n", "X\n", ("h 0",) * 401, ("X",) * 13, ("+X",) * 13]
 
 
 def deep_tuple(many):
@@ -51,7 +54,7 @@ def near_string(value):
         for place, sign in enumerate(value):
             if sign in "IXYZ":
                 yield from [value[:place] + other + value[place + 1:] for other in "IXYZ" if other != sign]
-    if value.split(" ")[0] in ("h", "s", "x", "z", "cx", "cz", "swap"):
+    if " " in value and value.split(" ")[0] in ("h", "s", "x", "z", "cx", "cz", "swap"):
         yield from [other + value[value.index(" "):] for other in ("h", "s", "x", "z", "cx", "cz", "swap", "y", "cy")]
         yield from [value[:-1] + other for other in "0123456789"] + [value.replace(" ", "  "), " " + value]
 

@@ -190,6 +190,92 @@ EXAMPLES[20] = r'''
 [True, False, ((0, 1),)]
 '''
 
+EXAMPLES[21] = r'''
+>>> from guardedwires.turning import all_turned, fewest_ties, looked_net, one_net, shows_looked_net, shows_one_net, turned
+>>> short, round_three = ((0, 1), (1, 2)), ((0, 1), (0, 2), (1, 2))
+>>> [turned(3, short, 1) == round_three, turned(3, short, 0) == short, one_net(3, short, round_three)[:2], len(all_turned(3, short))]
+[True, True, ('turns', (1,)), 4]
+>>> [one_net(4, line, star)[0], shows_one_net(4, line, star, ('apart', (0, 2))), shows_one_net(4, line, star, ('apart', (0, 1))), fewest_ties(3, round_three)[0]]
+['apart', True, False, 2]
+>>> [shows_looked_net(3, short, 1, '+Z', ((), ('h 1',))), shows_looked_net(3, short, 1, '-Z', ((), ('h 1',))), looked_net(2, (), 0, '+X')[0]]
+[True, False, ()]
+'''
+
+EXAMPLES[22] = r'''
+>>> from guardedwires.flows import fewest_layers, flow, last, owed, shows_flow
+>>> row = Guard('wires 3\nguard +XZI\nguard +ZXZ\nguard +IZX')
+>>> [flow(row, (0, 1))[1], flow(row, (0, 1))[2][1], last(row, (0, 1), 0)[0], last(row, (0, 1), 1), flow(row, ())]
+[(0, 1), '+IZX', 'barred', ('word', '+IZX'), ('flow', (), ())]
+>>> [shows_flow(row, (0, 1, 2), ('stuck', (0, 1, 2), ('XZI', 'ZXZ', 'IZX'))), shows_flow(row, (0, 1), ('flow', (1, 0), ('+IZX', '+ZXZ')))]
+[True, False]
+>>> [owed(row, (0, 1), ('+ZXZ', '+IZX'), heard) for heard in ('++', '-+', '--', '+-')]
+[('++', 'III'), ('+-', 'IIZ'), ('+-', 'IIY'), ('++', 'IIX')]
+>>> twice = Guard('wires 4\nguard +XZII\nguard +ZXII\nguard +IIXZ\nguard +IIZX')
+>>> fewest_layers(twice, (0, 2))
+('layers', ((0, 2),), (('+ZXII', '+IIZX'),))
+'''
+
+EXAMPLES[23] = r'''
+>>> from guardedwires.knobs import depth, quarter_turned, same_row, shows_same_row, working
+>>> twin = Guard('wires 2\nguard +ZZ')
+>>> one = (('a', '+ZI'), ('b', '+XX'), ('c', '-ZZ'))
+>>> [working(twin, one), quarter_turned(twin, one, ('a',), '+XX'), quarter_turned(twin, one, ('a', 'b'), '+ZI'), depth(twin, one)]
+[(0, 1), '-YX', '+YX', (((0,), (1,)), (0, 1))]
+>>> [same_row(twin, one, (('a', '+IZ'), ('b', '-YY'))), same_row(twin, one, one[1::-1])[0], shows_same_row(twin, one, one[1::-1], ('apart', ('a', 'b'), '+ZI')), shows_same_row(twin, one, one, ('same', (0,)))]
+[('same', ()), 'apart', True, False]
+'''
+
+EXAMPLES[24] = r'''
+>>> from guardedwires.guards import Guard
+>>> from guardedwires.wirework import done_by, keeps, kept_turns, shows_work, work
+>>> pair, twin = Guard('wires 2\nguard +XX\nguard +ZZ'), Guard('wires 2\nguard +ZZ')
+>>> firm = (('+XX', '+ZI'),)
+>>> [keeps(pair, ('ZYX', 'ZYX')), keeps(twin, ('ZYX', 'XYZ'))[:2], kept_turns(pair)[0], [len(row) for row in kept_turns(pair)[1]], kept_turns(twin)[0]]
+[('keeps', ((1,), (0,))), ('out', 0), 6, [6, 1], 4]
+>>> [done_by(twin, firm, ('YXZ', 'XYZ')), work(twin, firm, ((0, 1), (1,)))[0], work(twin, firm, ((1,), (0,)))[0]]
+[((0, 1), (1,)), 'turns', 'none']
+>>> shows_work(twin, firm, ((1,), (0,)), ('none', ('wires', (('out', 1, 'ZI'), ('out', 0, 'ZI'), ('out', 1, 'ZI'), ('out', 0, 'ZI'), ('out', 0, 'ZI'), ('out', 0, 'ZI')))))
+True
+'''
+
+EXAMPLES[26] = r'''
+>>> from guardedwires.choosing import cheapest
+>>> from guardedwires.guards import Guard
+>>> from guardedwires.offers import by, choices
+>>> from guardedwires.wishes import comes_true
+>>> four = Guard('wires 4\nguard +XXXX\nguard +ZZZZ')
+>>> bids = (('leave', 1, 3), ('look', '+XXII', 2), ('look', '-IIXX', 2))
+>>> [len(choices(four, bids)), choices(four, bids)[1], by(four, choices(four, bids)[1]).kept, '+IIXX' in by(four, choices(four, bids)[1])]
+[6, (('look', '+XXII', 2),), 1, True]
+>>> [comes_true(four, wish) for wish in (('lost', (0,)), ('lost', (0, 1)), ('mended', 1), ('all', (0, 1, 2)), ('kept', '-IIXX'), ('told', '-XXXX'), ('keeps', 2))]
+[True, False, False, True, True, False, True]
+>>> cheapest(four, bids, (('keeps', 1), ('told', '-IIXX')))
+('choice', 2, (('look', '-IIXX', 2),), (((), 1), ((('look', '+XXII', 2),), 1)))
+'''
+
+EXAMPLES[27] = r'''
+>>> from guardedwires.machine import Machine
+>>> machine = Machine(four)
+>>> [machine.mark('a', '+XXII'), machine.mark('b', '+ZIZI'), machine.look('+ZIII'), machine.off('a', (0, 1)), machine.guard.kept, machine.look('-IIXX'), machine.read, machine.spoilt, machine.marks, machine.done]
+[None, None, None, '+IIXX', 2, None, (('a', '-'),), ('b',), (), 4]
+>>> [machine.undo(), machine.lose((2,)), [name for name, word in machine.marks], machine.spoilt, machine.guard.kept]
+[None, None, ['b'], ('a',), 2]
+>>> [machine.gate('h 1'), machine.bring(Guard('wires 1\nguard +X')), machine.guard.wires, machine.off('b', (0, 2, 4)), machine.told_by((0, 1, 3)), machine.told_by((0, 1))]
+[None, None, 5, '+IXIZI', ('b',), ()]
+'''
+
+EXAMPLES[29] = r'''
+>>> from guardedwires.desk import Desk
+>>> from guardedwires.journals import journal, read_journal
+>>> journal(machine).split('\n')[3:]
+['machine', 'mark a +XXII', 'mark b +ZIZI', 'look +ZIII', 'lose 2', 'gate h 1', 'bring 1 +X']
+>>> desk = Desk(journal(machine))
+>>> [desk.say(line) for line in ('kind +ZIIII', 'kind -IIZII', 'kind +IIIII', 'tells 0 1 3', 'spoilt', 'read', 'keeps', 'undo', 'wires', 'look -ZXIZ', 'marks', 'read')]
+['guard', 'contrary', 'guard', 'b', 'a', '.', '2', 'ok', '4', 'ok', '.', 'b-']
+>>> read_journal(journal(machine)) == machine
+True
+'''
+
 
 class Examples(unittest.TestCase):
 

@@ -13,10 +13,12 @@ BUILTINS = {"len", "range", "enumerate", "zip", "min", "max", "sum", "abs", "sor
             "list", "tuple", "dict", "isinstance", "ord", "repr", "any", "all", "divmod", "ValueError"}
 # Running examples binds _ among the builtins, so it is left out here.
 ALL_BUILTINS = set(vars(builtins)) - {"_"}
-METHODS = {"append", "get", "split", "strip", "join", "startswith", "index", "count", "bit_length", "with_word", "without"}
+METHODS = {"append", "get", "split", "strip", "join", "startswith", "index", "count", "bit_length"}
+OWN_METHODS = {"with_word", "without", "mark", "gate", "look", "flip", "lose", "bring", "off", "told_by", "undo", "redo", "trial",
+               "keep", "stand_at", "need_mark"}
 BARRED = ["register", "mro", "elements", "open", "input", "law", "version_info", "with_traceback", "add_note"]
-UNSEEN = (ast.GeneratorExp, ast.Lambda, ast.Set, ast.SetComp, ast.Try, ast.Global, ast.Nonlocal, ast.Starred, ast.Yield,
-          ast.YieldFrom, ast.AsyncFunctionDef, ast.Import, ast.With, ast.Match, ast.NamedExpr, ast.Delete, ast.AugAssign)
+UNSEEN = (ast.GeneratorExp, ast.Lambda, ast.Set, ast.SetComp, ast.Global, ast.Nonlocal, ast.Starred, ast.Yield,
+          ast.YieldFrom, ast.AsyncFunctionDef, ast.Import, ast.Match, ast.NamedExpr, ast.Delete, ast.AugAssign)
 
 
 def trees():
@@ -84,9 +86,31 @@ class Files(unittest.TestCase):
         for name, tree in trees():
             for node in ast.walk(tree):
                 if isinstance(node, ast.Name) and node.id in ALL_BUILTINS:
-                    self.assertIn(node.id, BUILTINS, name)
+                    self.assertIn(node.id, BUILTINS | ({"property"} if name == "machine.py" else set()), name)
                 if isinstance(node, ast.Call) and isinstance(node.func, ast.Attribute):
-                    self.assertIn(node.func.attr, METHODS, name)
+                    self.assertIn(node.func.attr, METHODS | OWN_METHODS, name)
+
+    def test_own_errors_alone_are_caught(self):
+        own = bound(dict(trees())["errors.py"])
+        for name, tree in trees():
+            for node in ast.walk(tree):
+                if isinstance(node, ast.Try):
+                    self.assertEqual((node.orelse, node.finalbody), ([], []), name)
+                    for handler in node.handlers:
+                        self.assertIn(handler.type.id, own, name)
+
+    def test_classes(self):
+        """Only properties are decorated; blocks stand over a call of an own method; ends of blocks just set attributes."""
+        for name, tree in trees():
+            for node in ast.walk(tree):
+                if isinstance(node, ast.FunctionDef):
+                    self.assertIn([ast.unparse(its) for its in node.decorator_list], ([], ["property"]), name)
+                if isinstance(node, ast.With):
+                    self.assertEqual([ast.unparse(item) for item in node.items], ["self.trial()"])
+                if isinstance(node, ast.FunctionDef) and node.name == "__exit__":
+                    allowed = (ast.FunctionDef, ast.arguments, ast.arg, ast.Assign, ast.Attribute, ast.Name, ast.If, ast.BoolOp, ast.Or,
+                               ast.Compare, ast.IsNot, ast.Constant, ast.UnaryOp, ast.Not, ast.Load, ast.Store)
+                    self.assertLessEqual({type(its) for its in ast.walk(node)}, set(allowed))
 
     def test_barred_words(self):
         for path in FILES:

@@ -4,12 +4,17 @@ import inspect
 import random
 import unittest
 
-from guardedwires import counting, fewest, holders, looks, mending, nets, reading, sharing, steering
+from guardedwires import (choosing, counting, fewest, flows, holders, journals, knobs, looks, mending, nets, offers, reading,
+                          sharing, steering, turning, wirework, wishes)
 from guardedwires.frames import frame
-from guardedwires.guards import Guard
+from guardedwires.guards import Guard, group
+from guardedwires.machine import Machine
 from tests.checking import opposite, random_guard, turned_pairs
 from tests.oracle import all_letters, all_lots
 from tests.oracle_sides import all_nets
+from tests.test_choosing import some_case
+from tests.test_flows import flowing
+from tests.test_knobs import liked_row, near_row, random_row
 from tests.test_looks import some_looks
 from tests.test_reading import any_looks
 
@@ -24,6 +29,14 @@ INTERFACE = {
     holders: "told_on, shows_told_on, can_tell, least_holders, blind_holders",
     sharing: "shared, brought, shows_brought",
     nets: "net_guard, as_net, shows_as_net, cut, cuts",
+    turning: "turned, one_net, shows_one_net, all_turned, fewest_ties, shows_fewest_ties, looked_net, shows_looked_net",
+    flows: "last, shows_last, flow, shows_flow, fewest_layers, shows_fewest_layers, owed",
+    knobs: "working, quarter_turned, same_row, shows_same_row, depth, shows_depth",
+    wirework: "keeps, shows_keeps, kept_turns, shows_kept_turns, done_by, work, shows_work",
+    offers: "choices, by",
+    wishes: "comes_true",
+    choosing: "cheapest, shows_cheapest",
+    journals: "journal, read_journal",
 }
 
 
@@ -57,15 +70,56 @@ def calls(turn):
                 (sharing, "shared", (guard, side)), (sharing, "brought", (guard, side)),
                 (nets, "net_guard", (4, net)), (nets, "as_net", (full,)), (nets, "cut", (4, net, (0, 2))),
                 (nets, "cuts", (4, net))]
+    yield from net_calls(chance, net)
+    yield from flow_calls(chance, turn)
+    yield from kept_calls(chance, guard, pairs)
+    yield from choice_calls(turn)
+
+
+def net_calls(chance, net):
+    other = chance.choice([chance.choice(all_nets(4)), turning.all_turned(4, net)[-1]])
+    yield from [(turning, "turned", (4, net, 2)), (turning, "one_net", (4, net, other)), (turning, "all_turned", (4, net)),
+                (turning, "fewest_ties", (4, net)), (turning, "looked_net", (4, net, 1, chance.choice(["+X", "+Y", "-Z"])))]
+
+
+def flow_calls(chance, turn):
+    guard = flowing(turn)
+    lot = tuple(range(guard.wires))
+    yield from [(flows, "last", (guard, lot, 0)), (flows, "flow", (guard, lot)), (flows, "fewest_layers", (guard, lot)),
+                (flows, "flow", (guard, lot[1:])), (flows, "owed", (guard, (), (), ""))]
+
+
+def kept_calls(chance, guard, pairs):
+    row, words = random_row(chance, guard, 5), [word for pair in pairs for word in pair]
+    other = near_row(chance, guard, liked_row(chance, guard, row))
+    wish = tuple((number,) for number in range(len(words)))
+    yield from [(knobs, "working", (guard, row)), (knobs, "quarter_turned", (guard, row, tuple(sorted(dict(row))), words[0])),
+                (knobs, "same_row", (guard, row, other)), (knobs, "depth", (guard, row)),
+                (wirework, "keeps", (guard, tuple(chance.choice(wirework.TURNS) for _ in range(guard.wires)))),
+                (wirework, "kept_turns", (guard,)), (wirework, "done_by", (guard, pairs, ("XYZ",) * guard.wires)),
+                (wirework, "work", (guard, pairs, wish)), (wirework, "work", (guard, pairs, wish[1::-1] + wish[2:]))]
+
+
+def choice_calls(turn):
+    guard, bids, wanted = some_case(turn)
+    machine = Machine(guard)
+    machine.lose((0,))
+    yield from [(offers, "choices", (guard, bids)), (offers, "by", (guard, offers.choices(guard, bids)[-1])),
+                (wishes, "comes_true", (guard, wanted[0])), (choosing, "cheapest", (guard, bids, wanted)),
+                (journals, "journal", (machine,)), (journals, "read_journal", (journals.journal(machine),))]
 
 
 def other_object(value):
-    """An equal value, another object where it is a Guard."""
+    """An equal value, another object where it is a Guard or a Machine."""
+    if isinstance(value, Machine):
+        return value.copy()
     return Guard(value.text) if isinstance(value, Guard) else value
 
 
 def guards_told(values):
-    return [(value.text, value.wires, value.words, value.kept) for value in values if isinstance(value, Guard)]
+    """What is told of those that are Guards or Machines."""
+    told = [(value.text, value.wires, value.words, value.kept) for value in values if isinstance(value, Guard)]
+    return told + [(value.first.text, value.marks, value.done) for value in values if isinstance(value, Machine)]
 
 
 def kinds_in(value):
@@ -94,7 +148,7 @@ class Twice(unittest.TestCase):
                 self.assertEqual(value, function(*args))
                 self.assertEqual(value, function(*[other_object(part) for part in args]))
                 self.assertEqual(guards_told(args), ahead)
-                self.assertLessEqual(kinds_in(value), {tuple, int, str, type(None), Guard}, name)
+                self.assertLessEqual(kinds_in(value), {tuple, int, str, bool, type(None), Guard, Machine}, name)
 
     def test_what_was_told_is_shown(self):
         for turn in range(24):
@@ -126,6 +180,12 @@ class Twice(unittest.TestCase):
             faults = tuple(sorted(chance.sample(sorted(all_letters(4)), 4)))
             table = mending.best_table(guard, faults, (1, 0, 2, 999))[1]
             self.assertNotIn(("none",), [mending.answered(guard, table, letters) for letters in faults])
+            offered, bids, wanted = some_case(turn)
+            told = choosing.cheapest(offered, bids, wanted)
+            if told[0] == "choice":
+                came = offers.by(offered, told[2])
+                self.assertTrue(all(wishes.comes_true(came, wish) for wish in wanted))
+                self.assertEqual(choosing.cheapest(came, (("look", group(came)[-1], 99),), wanted), ("choice", 0, (), ()))
             net, gates = nets.as_net(random_guard(chance, 4, 4))
             self.assertEqual(nets.as_net(nets.net_guard(4, net)), (net, ()))
             self.assertIsInstance(gates, tuple)

@@ -32,7 +32,7 @@ def asked_answer(machine, name, told):
     """What is answered to a line of this word and those behind it; None if that is no such line."""
     if name == "kind" and len(told) == 1:
         return kind(machine.guard, told[0])[0]
-    if name == "off" and len(told) > 0 and lot_of(told[1:]) is not None:
+    if name == "off" and lot_of(told[1:]) is not None:
         return "no" if machine.off(told[0], lot_of(told[1:])) is None else "yes"
     if name == "tells" and lot_of(told) is not None:
         return all_named(machine.told_by(lot_of(told)))

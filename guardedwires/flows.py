@@ -5,7 +5,7 @@ from guardedwires.groups import kind_of, word_made
 from guardedwires.letters import by_letters, letters_cross, lies_on
 from guardedwires.losing import barring, misses, numbers_off
 from guardedwires.needs import need_lot
-from guardedwires.values import is_from_to, is_integer, is_letters, is_lot, is_told, is_tuple_of, is_word
+from guardedwires.values import is_integer, is_letters, is_lot, is_told, is_tuple_of, is_word
 
 
 def z_at(wire, wires):

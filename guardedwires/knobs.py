@@ -90,12 +90,10 @@ def word_at(row, name):
 
 def word_parting(guard, one, other):
     """A kept word that turns by these two words (None stands for no turn) lead apart; None if there is none."""
-    if one is None or other is None:
-        return kept_crossing(guard, (one or other)[1:])
-    told = alike_beside(guard, one, other)
-    if told[0] == "alike":
+    if one is not None and other is not None and alike_beside(guard, one, other)[0] == "alike":
         return None
-    return kept_crossing(guard, one[1:]) if told[0] == "contrary" else told[1]
+    # Unless both words are alike, whatever crosses one of them is led apart, whether it crosses the other one or not.
+    return kept_crossing(guard, (one or other)[1:])
 
 
 def apart_by_one(guard, mine, its):
@@ -161,7 +159,7 @@ def shows_same_row(guard, row, other, value):
     """Whether this is such a result as is told for same_row."""
     need_two_rows(guard, row, other)
     if is_told(value, "apart", 3):
-        if not is_some(value[1]) or len(value[1]) == 0 or not is_kept(guard.words, value[2], guard.wires):
+        if not is_some(value[1]) or not is_kept(guard.words, value[2], guard.wires):
             return False
         one = led_by_quarters(row, value[1], value[2])
         return alike_beside(guard, one, led_by_quarters(other, value[1], value[2]))[0] != "alike"

@@ -19,13 +19,13 @@ class Trial:
 
     def __init__(self, machine):
         self.machine = machine
-        self.now = machine.now
-        self.undone = machine.undone
-        self.outer = machine.block
-        self.is_kept = False
+        self.now = None
+        self.undone = None
+        self.outer = None
+        self.stays = False
 
     def __enter__(self):
-        # Something may have been done since this trial was made.
+        # What was done since this trial was made stands ahead of the block.
         self.now = self.machine.now
         self.undone = self.machine.undone
         self.outer = self.machine.block
@@ -34,7 +34,7 @@ class Trial:
 
     def __exit__(self, kind, value, trace):
         self.machine.block = self.outer
-        if kind is not None or not self.is_kept:
+        if kind is not None or not self.stays:
             self.machine.now = self.now
             self.machine.undone = self.undone
 
@@ -180,7 +180,7 @@ class Machine:
         """Let stand what is done in the innermost block."""
         if self.block is None:
             raise NoTrial(None)
-        self.block.is_kept = True
+        self.block.stays = True
 
     def tried(self, look, *, keep=False):
         """What look returns, called with the machine within a block, which is kept if keep is True."""

@@ -88,7 +88,7 @@ def gated(state, gate):
 
 
 def seen_behind(state, word):
-    """The state behind a look at a seen word."""
+    """The state behind a look at a seen word, or one of the group."""
     words = state.base.words
     named = [word_behind(words, its, word) for its in words_named(state)]
     return with_words(state, words_behind(words, word), named)
@@ -113,10 +113,10 @@ def kept_behind(state, word):
 
 def looked_at(state, word):
     """The state behind a look at this word, whose contrary is none of the group."""
-    found = kind_of(state.base.words, word)
-    if found == "guard":
-        return state
-    return kept_behind(state, word) if found == "kept" else seen_behind(state, word)
+    if kind_of(state.base.words, word) == "kept":
+        return kept_behind(state, word)
+    # Nothing crosses a word of the group, so beside it nothing changes.
+    return seen_behind(state, word)
 
 
 def flipped_word(word, letters):

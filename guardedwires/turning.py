@@ -8,7 +8,7 @@ from guardedwires.nets import as_net, cut_of, need_net, neighbours, words_of_net
 from guardedwires.rows import numbers_in
 from guardedwires.stepping import is_same_group, words_behind
 from guardedwires.tables import gates_at, sign_gates
-from guardedwires.values import is_exactly, is_from_to, is_lot, is_net, is_single_gates, is_told, is_tuple_of
+from guardedwires.values import is_from_to, is_lot, is_net, is_single_gates, is_told, is_tuple_of
 
 HEARD = ("+X", "+Y", "+Z", "-X", "-Y", "-Z")
 
@@ -133,7 +133,7 @@ def words_heard(many, net, wire, heard):
     """BadNumber, BadNet, BadWire, BadHeard, Never: the words of the net's guard behind this look at one wire."""
     need_net(many, net)
     need_wire(many, wire)
-    if not isinstance(heard, str) or heard not in HEARD:
+    if heard not in HEARD:
         raise BadHeard(heard)
     word = heard[0] + "I" * wire + heard[1] + "I" * (many - 1 - wire)
     words = words_of_net(many, net)

@@ -15,7 +15,7 @@ MOST_WORKED = 5
 
 def is_turns(guard, value):
     """Whether it is a tuple with one turn for each wire."""
-    return is_tuple_of(value, guard.wires) and all([isinstance(turn, str) and turn in TURNS for turn in value])
+    return is_tuple_of(value, guard.wires) and all([turn in TURNS for turn in value])
 
 
 def need_turns(guard, value):
@@ -56,7 +56,7 @@ def shows_keeps(guard, turns, value):
     """Whether this is such a result as is told for keeps."""
     told = keeps(guard, turns)
     if not is_told(value, "out", 3):
-        return told[0] == "keeps" and is_exactly(value, told)
+        return is_exactly(value, told)
     if not is_from_to(value[1], 0, len(guard.words) - 1):
         return False
     letters = turned_wires(guard.words[value[1]][1:], turns)
@@ -161,7 +161,6 @@ def numbers_told(words, letters):
 def done_by(guard, pairs, turns):
     """For each word of the frame the numbers of its words whose product it is turned to, beside the guard."""
     need_frame(guard, pairs)
-    need_turns(guard, turns)
     if keeps(guard, turns)[0] == "out":
         raise NotDone(turns)
     words = words_in(pairs)

@@ -15,7 +15,7 @@ MOST_KEPT = 6
 
 def is_wish(guard, value):
     """Whether it is a wish for the guard."""
-    if not is_tuple_of(value, 2) or not isinstance(value[0], str):
+    if not is_tuple_of(value, 2):
         return False
     name, told = value
     if name == "lost":

@@ -128,11 +128,13 @@ def line_of(name, *told):
 
 NUMBER = r"(?:0|-?[1-9][0-9]*)"
 FORMS = {
-    "mark": r"mark ([^ ]+) ([^ ]+)", "gate": r"gate ([^ ]+(?: [^ ]+)*)", "look": r"look ([^ ]+)", "flip": r"flip ([^ ]+)",
+    "mark": r"mark ([^ ]+) ([^ ]+)", "gate": r"gate ([^ ]+(?: [^ ]+)*)", "look": r"look ([^ ]+)",
+         "flip": r"flip ([^ ]+)",
     "lose": rf"lose ({NUMBER}(?: {NUMBER})*)", "bring": rf"bring ({NUMBER}(?: [^ ]+)*)",
 }
 ASKED = {
-    "kind": r"kind ([^ ]+)", "off": rf"off ([^ ]+) ({NUMBER}(?: {NUMBER})*)", "tells": rf"tells ({NUMBER}(?: {NUMBER})*)",
+    "kind": r"kind ([^ ]+)", "off": rf"off ([^ ]+) ({NUMBER}(?: {NUMBER})*)",
+         "tells": rf"tells ({NUMBER}(?: {NUMBER})*)",
     "marks": "marks()", "spoilt": "spoilt()", "read": "read()", "wires": "wires()", "keeps": "keeps()",
 }
 
@@ -218,6 +220,8 @@ def asked(model, line):
             model.need(is_numbers(lot, model.wires), "BadLot", lot)
             return listed(model.told_by(lot))
         if told:
-            return {"marks": listed(sorted(model.marks)), "spoilt": listed(sorted(model.spoilt)), "wires": str(model.wires),
-                    "read": listed(sorted(mark + sign for mark, sign in model.read.items())), "keeps": str(kept_many(model))}[name]
+            return {"marks": listed(sorted(model.marks)), "spoilt": listed(sorted(model.spoilt)),
+                    "wires": str(model.wires),
+                    "read": listed(sorted(mark + sign for mark, sign in model.read.items())),
+                    "keeps": str(kept_many(model))}[name]
     raise Refused("BadLine", line)

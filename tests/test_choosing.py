@@ -52,7 +52,8 @@ class Choosing(Checking):
         for turn in range(80):
             guard, offers, wishes = some_case(turn)
             told = cheapest(guard, offers, wishes)
-            able = [choice for choice in choices(guard, offers) if all(comes_true(by(guard, choice), wish) for wish in wishes)]
+            able = [choice for choice in choices(guard, offers) if all(comes_true(by(guard, choice),
+                    wish) for wish in wishes)]
             if told[0] == "none":
                 self.assertEqual(able, [])
                 self.assertEqual([choice for choice, _ in told[1]], list(choices(guard, offers)))
@@ -75,7 +76,8 @@ class Choosing(Checking):
                     self.assertIs(shows_cheapest(guard, offers, wishes, value), wrong)
 
     def test_values_near_to_the_right_one(self):
-        for args in ((FOUR, BIDS, WISHES), (FOUR, BIDS, (("keeps", 3),)), (BELL, (("look", "-ZZ", 99),), (("told", "+XX"),))):
+        for args in ((FOUR, BIDS, WISHES), (FOUR, BIDS, (("keeps", 3),)),
+                     (BELL, (("look", "-ZZ", 99),), (("told", "+XX"),))):
             self.check_shows(shows_cheapest, right_cheapest, args, some_near(cheapest(*args), 900))
 
     def test_no_offer_is_wanted(self):
@@ -83,7 +85,8 @@ class Choosing(Checking):
         self.assertEqual(cheapest(FOUR, BIDS, (("keeps", 2),) * 3), ("choice", 0, (), ()))
         every = (("look", "+XIII", 1), ("look", "+ZIII", 1))
         self.assertEqual(cheapest(FOUR, every, (("keeps", 6),))[0], "none")
-        told = cheapest(Guard("wires 2"), (("look", "+XX", 99), ("look", "+ZZ", 99)), (("keeps", 0), ("told", "-YY"), ("nothing", (0,))))
+        told = cheapest(Guard("wires 2"), (("look", "+XX", 99), ("look", "+ZZ", 99)),
+                        (("keeps", 0), ("told", "-YY"), ("nothing", (0,))))
         self.assertEqual(told[:2], ("choice", 198))
         self.assertEqual([number for _, number in told[3]], [1, 1, 1])
 
@@ -110,7 +113,8 @@ class Choosing(Checking):
             told = cheapest(*args)
             for value in junk():
                 its = [told[:place] + (value,) + told[place + 1:] for place in range(len(told))]
-                its += [told[:-1] + (told[-1][:-1] + ((told[-1][-1][0], value),),), told[:-1] + (told[-1][:-1] + ((value, 0),),)]
+                its += [told[:-1] + (told[-1][:-1] + ((told[-1][-1][0], value),),),
+                        told[:-1] + (told[-1][:-1] + ((value, 0),),)]
                 self.check_shows(shows_cheapest, right_cheapest, args, its)
 
     def test_wrong_arguments(self):
@@ -118,7 +122,8 @@ class Choosing(Checking):
         wishes = (BadWishes, lambda value: is_wishes(FOUR, value))
         self.check_wrong(cheapest, (FOUR, BIDS, WISHES), [None, offers, wishes])
         self.check_wrong(shows_cheapest, (FOUR, BIDS, WISHES, 0), [None, offers, wishes, None])
-        for value in [(), list(WISHES), (("keeps", 1),) * 4, ("keeps", 1), (("keeps", 7),), (["keeps", 1],), (("lost", ()),)] + list(near(WISHES)):
+        for value in [(), list(WISHES), (("keeps", 1),) * 4, ("keeps", 1), (("keeps", 7),), (["keeps", 1],),
+                      (("lost", ()),)] + list(near(WISHES)):
             if not is_wishes(FOUR, value):
                 self.check_refused(cheapest, (FOUR, BIDS, WISHES), {2: value}, BadWishes)
                 self.check_refused(cheapest, (FOUR, BIDS, WISHES), {1: (), 2: value}, BadOffers)

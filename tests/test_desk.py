@@ -20,7 +20,8 @@ START = "wires 4\nguard +XXXX\nguard +ZZZZ\nmachine"
 def random_line(chance, model):
     """A line, of any form, wrong ones among them."""
     kind = chance.randrange(14)
-    lot = " ".join(str(wire) for wire in sorted(chance.sample(range(model.wires), chance.randrange(1, model.wires + 1))))
+    lot = " ".join(str(wire) for wire in sorted(chance.sample(range(model.wires),
+                                                              chance.randrange(1, model.wires + 1))))
     if kind < 6:
         name, args = random_deed(chance, model)
         return line_of(name, *args) if args != ((),) else "lose"
@@ -30,7 +31,8 @@ def random_line(chance, model):
         return "off " + chance.choice(NAMES) + " " + lot + chance.choice(["", "", " 9"])
     if kind == 8:
         return "tells " + lot + chance.choice(["", "", " 0"])
-    return chance.choice(["undo", "redo", "undo", "marks", "spoilt", "read", "wires", "keeps", "", "foo", "marks ", "off a", "kind"])
+    return chance.choice(["undo", "redo", "undo", "marks", "spoilt", "read", "wires", "keeps", "", "foo", "marks ",
+                          "off a", "kind"])
 
 
 class Desks(Checking):
@@ -60,7 +62,8 @@ class Desks(Checking):
                 came, deed = past[-1].copy(), deed_of(line)
                 try:
                     if line in ("undo", "redo"):
-                        came.need(len(past) > 1 if line == "undo" else ahead, "NothingToUndo" if line == "undo" else "NothingToRedo", None)
+                        came.need(len(past) > 1 if line == "undo" else ahead,
+                                  "NothingToUndo" if line == "undo" else "NothingToRedo", None)
                         (ahead.append(past.pop()) if line == "undo" else past.append(ahead.pop()))
                         answer = "ok"
                     elif deed is not None:
@@ -76,9 +79,12 @@ class Desks(Checking):
                     self.assertEqual((told, type(told)), (answer, str), line)
                     answers.add((line.split(" ")[0], told if told in ("yes", "no", ".") else "other"))
             self.assertEqual(frozenset(group(desk.machine.guard)), past[-1].those)
-        wanted = {"BadLine", "BadLot", "NoMark", "NothingToUndo", "NothingToRedo", "BadWord", "Held", "NotKept", "Never", "Wide"}
-        wanted |= {("off", "yes"), ("off", "no"), ("tells", "."), ("tells", "other"), ("read", "other"), ("read", "."), ("spoilt", "other"),
-                   ("spoilt", "."), ("marks", "other"), ("marks", "."), ("kind", "other"), ("undo", "other"), ("redo", "other")}
+        wanted = {"BadLine", "BadLot", "NoMark", "NothingToUndo", "NothingToRedo", "BadWord", "Held", "NotKept",
+                  "Never", "Wide"}
+        wanted |= {("off", "yes"), ("off", "no"), ("tells", "."), ("tells", "other"), ("read", "other"), ("read", "."),
+                   ("spoilt", "other"),
+                   ("spoilt", "."), ("marks", "other"), ("marks", "."), ("kind", "other"), ("undo", "other"),
+                   ("redo", "other")}
         self.assertLessEqual(wanted, answers)
 
     def test_the_machine(self):
@@ -100,7 +106,8 @@ class Desks(Checking):
 
     def test_deeds(self):
         desk = Desk(START)
-        for line in ("mark a +XXII", "mark b +ZIZI", "look +ZIII", "lose 2", "gate h 1", "gate swap 3 0", "bring 1 +X", "bring 1", "flip XXXXXX", "lose 0 3 4"):
+        for line in ("mark a +XXII", "mark b +ZIZI", "look +ZIII", "lose 2", "gate h 1", "gate swap 3 0", "bring 1 +X",
+                     "bring 1", "flip XXXXXX", "lose 0 3 4"):
             self.assertEqual(desk.say(line), "ok")
             self.assertEqual(journal(desk.machine).split("\n")[-1], line)
         self.assertEqual(desk.machine.done, 10)
@@ -113,27 +120,41 @@ class Desks(Checking):
 
     def test_answers(self):
         desk = Desk(START)
-        self.assertEqual([desk.say(line) for line in ("marks", "spoilt", "read", "wires", "keeps", "tells 0 1 2 3")], [".", ".", ".", "4", "2", "."])
-        self.assertEqual([desk.say("kind " + word) for word in ("+XXXX", "-XXXX", "+XXII", "-XIII")], ["guard", "contrary", "kept", "seen"])
+        self.assertEqual([desk.say(line) for line in ("marks", "spoilt", "read", "wires", "keeps", "tells 0 1 2 3")],
+                         [".", ".", ".", "4", "2", "."])
+        self.assertEqual([desk.say("kind " + word) for word in ("+XXXX", "-XXXX", "+XXII", "-XIII")],
+                         ["guard", "contrary", "kept", "seen"])
         for line in ("mark b +XXII", "mark a +XXII", "mark c -IIXX", "mark d +ZZII", "mark e +XIXI", "mark f +ZIZI"):
             desk.say(line)
-        self.assertEqual([desk.say(line) for line in ("marks", "tells 0 1", "tells 2 3", "tells 0 2", "tells 0 1 2", "tells 0")],
+        self.assertEqual([desk.say(line) for line in ("marks", "tells 0 1", "tells 2 3", "tells 0 2", "tells 0 1 2",
+                                                      "tells 0")],
                          ["a b c d e f", "a b c d", "a b c d", "e f", "a b c d e f", "."])
-        self.assertEqual([desk.say(line) for line in ("off a 0", "off a 0 1", "off a 0 2", "off e 0 1", "off e 0 2")], ["yes", "yes", "no", "no", "yes"])
+        self.assertEqual([desk.say(line) for line in ("off a 0", "off a 0 1", "off a 0 2", "off e 0 1", "off e 0 2")],
+                         ["yes", "yes", "no", "no", "yes"])
         desk.say("look -XXII")
-        self.assertEqual([desk.say(line) for line in ("marks", "read", "spoilt", "keeps", "wires")], ["d e", "a- b- c+", "f", "1", "4"])
+        self.assertEqual([desk.say(line) for line in ("marks", "read", "spoilt", "keeps", "wires")],
+                         ["d e", "a- b- c+", "f", "1", "4"])
         desk.say("bring 2 +XX")
-        self.assertEqual([desk.say(line) for line in ("keeps", "wires", "off d 4 5", "tells 4 5")], ["2", "6", "yes", "."])
+        self.assertEqual([desk.say(line) for line in ("keeps", "wires", "off d 4 5", "tells 4 5")],
+                         ["2", "6", "yes", "."])
 
     def test_bad_lines(self):
         desk = Desk(START)
         desk.say("mark a +XXII")
-        for value in junk() + ["", " ", "  ", "foo", "machine", "wires 4", "keeps 2", "read a", "marks ", " marks", "spoilt .", "undo 1", "undo ", "redo  ", "Undo", "UNDO", "un do",
-                               "wires\n", "\nwires", "marks\nmarks", "mark b +ZIZI\n", "kind", "kind ", "kind  +XXXX", "kind +XXXX +ZZZZ", "off", "off a", "off a ", "off  a 0",
-                               "off a  0", "off a x", "off a 00", "off a 0 ", "off a -0", "off a +0", "off a 0 01", "off 0", "tells", "tells ", "tells a", "tells 0  1", "tells 01",
-                               "tells 0,1", "tells 1.0", "mark", "mark b", "mark b +ZIZI +", "mark  b +ZIZI", "gate", "gate ", "gate  h 0", "gate h  0", "gate h 0 ", "look", "look ",
-                               "look +XXXX +XXXX", "flip", "flip XX XX", "lose", "lose ", "lose x", "lose 0 x", "lose 01", "lose -0", "lose 0  1", "lose +1", "bring", "bring ", "bring x", "bring 01",
-                               "bring 0", "bring 7", "bring -1", "bring 1 X", "bring 1 +XX", "bring 1 +X +Z", "bring 1 +X +X", "bring 1  +X", "bring 1 +X ", "bring 2 +ZI +IZ -ZZ",
+        for value in junk() + ["", " ", "  ", "foo", "machine", "wires 4", "keeps 2", "read a", "marks ", " marks",
+                               "spoilt .", "undo 1", "undo ", "redo  ", "Undo", "UNDO", "un do",
+                               "wires\n", "\nwires", "marks\nmarks", "mark b +ZIZI\n", "kind", "kind ", "kind  +XXXX",
+                               "kind +XXXX +ZZZZ", "off", "off a", "off a ", "off  a 0",
+                               "off a  0", "off a x", "off a 00", "off a 0 ", "off a -", "off a -0", "off a +0",
+                               "off a 0 01",
+                               "off 0", "tells", "tells ", "tells a", "tells 0  1", "tells 01",
+                               "tells 0,1", "tells 1.0", "mark", "mark b", "mark b +ZIZI +", "mark  b +ZIZI", "gate",
+                               "gate ", "gate  h 0", "gate h  0", "gate h 0 ", "look", "look ",
+                               "look +XXXX +XXXX", "flip", "flip XX XX", "lose", "lose ", "lose x", "lose 0 x",
+                               "lose 01", "lose -", "lose --1", "lose 0 -", "bring -", "lose -0", "lose 0  1",
+                               "lose +1", "bring", "bring ", "bring x", "bring 01",
+                               "bring 0", "bring 7", "bring -1", "bring 1 X", "bring 1 +XX", "bring 1 +X +Z",
+                               "bring 1 +X +X", "bring 1  +X", "bring 1 +X ", "bring 2 +ZI +IZ -ZZ",
                                b"wires", ["wires"], ("wires",), "wires 1", "say wires", "."]:
             if isinstance(value, str) and value in ("wires", "marks"):
                 continue
@@ -143,12 +164,24 @@ class Desks(Checking):
     def test_what_the_machine_raises(self):
         desk = Desk(START)
         desk.say("mark a +XXII")
-        for line, name, value in (("mark A +XXII", "BadName", "A"), ("mark a1 foo", "BadName", "a1"), ("mark a foo", "Held", "a"), ("mark b foo", "BadWord", "foo"), ("mark b +XXXX", "NotKept", "+XXXX"),
-                                  ("gate foo", "BadGate", "foo"), ("gate h 4", "BadGate", "h 4"), ("gate h 0 1", "BadGate", "h 0 1"), ("gate h 00", "BadGate", "h 00"), ("gate a b c d e f", "BadGate", "a b c d e f"),
-                                  ("look foo", "BadWord", "foo"), ("look -XXXX", "Never", "-XXXX"), ("look XXXX", "BadWord", "XXXX"), ("flip +XXXX", "BadLetters", "+XXXX"), ("flip 0", "BadLetters", "0"),
-                                  ("lose 4", "BadLot", (4,)), ("lose 1 0", "BadLot", (1, 0)), ("lose 0 0", "BadLot", (0, 0)), ("lose -1", "BadLot", (-1,)), ("lose 123456789", "BadLot", (123456789,)),
-                                  ("bring 3", "Wide", 6), ("bring 6 +XXXXXX", "Wide", 6), ("kind foo", "BadWord", "foo"), ("kind XXXX", "BadWord", "XXXX"), ("off b 9", "NoMark", "b"), ("off A 0", "NoMark", "A"),
-                                  ("off a 9", "BadLot", (9,)), ("off a 1 0", "BadLot", (1, 0)), ("off a -3", "BadLot", (-3,)), ("tells 4", "BadLot", (4,)), ("tells 1 1", "BadLot", (1, 1)), ("tells -1 0", "BadLot", (-1, 0)),
+        for line, name, value in (("mark A +XXII", "BadName", "A"), ("mark a1 foo", "BadName", "a1"),
+                                  ("mark a foo", "Held", "a"), ("mark b foo", "BadWord", "foo"),
+                                  ("mark b +XXXX", "NotKept", "+XXXX"),
+                                  ("gate foo", "BadGate", "foo"), ("gate h 4", "BadGate", "h 4"),
+                                  ("gate h 0 1", "BadGate", "h 0 1"), ("gate h 00", "BadGate", "h 00"),
+                                  ("gate a b c d e f", "BadGate", "a b c d e f"),
+                                  ("look foo", "BadWord", "foo"), ("look -XXXX", "Never", "-XXXX"),
+                                  ("look XXXX", "BadWord", "XXXX"), ("flip +XXXX", "BadLetters", "+XXXX"),
+                                  ("flip 0", "BadLetters", "0"),
+                                  ("lose 4", "BadLot", (4,)), ("lose 1 0", "BadLot", (1, 0)),
+                                  ("lose 0 0", "BadLot", (0, 0)), ("lose -1", "BadLot", (-1,)),
+                                  ("lose 123456789", "BadLot", (123456789,)),
+                                  ("bring 3", "Wide", 6), ("bring 6 +XXXXXX", "Wide", 6),
+                                  ("kind foo", "BadWord", "foo"), ("kind XXXX", "BadWord", "XXXX"),
+                                  ("off b 9", "NoMark", "b"), ("off A 0", "NoMark", "A"),
+                                  ("off a 9", "BadLot", (9,)), ("off a 1 0", "BadLot", (1, 0)),
+                                  ("off a -3", "BadLot", (-3,)), ("tells 4", "BadLot", (4,)),
+                                  ("tells 1 1", "BadLot", (1, 1)), ("tells -1 0", "BadLot", (-1, 0)),
                                   ("redo", "NothingToRedo", None)):
             self.check_error(desk, line, getattr(errors, name), value)
         desk.say("undo")
@@ -158,7 +191,8 @@ class Desks(Checking):
         self.assertEqual([desk.say("marks"), desk.say("redo"), desk.say("marks")], [".", "ok", "a"])
 
     def test_bad_journals(self):
-        for text, number in ((0, 0), (None, 0), (("wires 1", "machine"), 0), ("", 2), ("wires 1", 2), ("machine", 1), ("wires 0\nmachine", 1), ("wires 1\nmachine\n", 3),
+        for text, number in ((0, 0), (None, 0), (("wires 1", "machine"), 0), ("", 2), ("wires 1", 2), ("machine", 1),
+                             ("wires 0\nmachine", 1), ("wires 1\nmachine\n", 3),
                              ("wires 1\nmachine\nundo", 3), ("wires 1\nmachine\nmark a +X\nmark a +X", 4)):
             with self.assertRaises(BadJournal) as caught:
                 Desk(text)

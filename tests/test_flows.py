@@ -22,7 +22,8 @@ NOTHING = Guard("wires 2")
 
 def tied_words(n, ties):
     """The words of the guard of a net, of any number of wires."""
-    return ["+" + "".join("X" if at == wire else "Z" if (min(at, wire), max(at, wire)) in ties else "I" for at in range(n))
+    return ["+" + "".join("X" if at == wire else "Z" if (min(at, wire),
+                                                         max(at, wire)) in ties else "I" for at in range(n))
             for wire in range(n)]
 
 
@@ -77,7 +78,8 @@ class Flows(Checking):
             wire = chance.choice(lot)
             others = [("word", word) for word in group(guard)]
             others += [("barred", letters) for letters in sorted(passing_guard(guard))]
-            self.check_told(last, shows_last, right_last, (guard, lot, wire), chance.sample(others, min(3, len(others))), most=60)
+            self.check_told(last, shows_last, right_last, (guard, lot, wire),
+                            chance.sample(others, min(3, len(others))), most=60)
             self.check_shows(shows_last, right_last, (guard, lot, wire), others)
             self.check_shows(shows_last, right_last, (guard, lot, wire),
                              [("barred", letters) for letters in sorted(all_letters(guard.wires))[::3]])
@@ -107,8 +109,10 @@ class Flows(Checking):
             for lot in all_lots(guard.wires):
                 found.add((self.check_flow_and_layers(guard, lot)[0][0], len(lot)))
             lot = chance.choice(all_lots(guard.wires))
-            self.check_told(flow, shows_flow, right_flow, (guard, lot), [flow(guard, its) for its in all_lots(guard.wires)[-2:]], most=50)
-            self.check_told(fewest_layers, shows_fewest_layers, right_fewest_layers, (guard, lot), [flow(guard, lot)], most=50)
+            self.check_told(flow, shows_flow, right_flow, (guard, lot),
+                            [flow(guard, its) for its in all_lots(guard.wires)[-2:]], most=50)
+            self.check_told(fewest_layers, shows_fewest_layers, right_fewest_layers, (guard, lot), [flow(guard, lot)],
+                            most=50)
         self.assertEqual({many for name, many in found if name == "stuck"}, {1, 2, 3, 4})
         self.assertLessEqual({0, 1, 2, 3}, {many for name, many in found if name == "flow"})
 
@@ -122,7 +126,8 @@ class Flows(Checking):
                 if one is not None:
                     self.assertIs(shows_flow(guard, lot, ("flow",) + one), True)
                     self.check_shows(shows_flow, right_flow, (guard, lot), [
-                        ("flow", one[0][::-1], one[1][::-1]), ("flow", one[0][::-1], one[1]), ("flow", one[0][1:], one[1][1:]),
+                        ("flow", one[0][::-1], one[1][::-1]), ("flow", one[0][::-1], one[1]),
+                            ("flow", one[0][1:], one[1][1:]),
                         ("flow", one[0], tuple("-" + word[1:] for word in one[1])), ("flow", list(one[0]), one[1]),
                         ("flow", one[0], one[1][:-1]), ("flow", one[0], one[1] + one[1])])
 
@@ -130,12 +135,14 @@ class Flows(Checking):
         """Any lot of wires none of which can be last shows it, also a lesser one."""
         guard = Guard("wires 4\nguard +ZZII\nguard +IIZZ")
         both = ("XXII", "XXII")
-        for some, rows in (((0, 1), both), ((2, 3), ("IIXX", "IIYX")), ((0, 1, 2, 3), ("XXII", "YXXX", "XXXX", "IIXY"))):
+        for some, rows in (((0, 1), both), ((2, 3), ("IIXX", "IIYX")),
+                           ((0, 1, 2, 3), ("XXII", "YXXX", "XXXX", "IIXY"))):
             for lot in ((0, 1, 2, 3), (0, 1), (2, 3)):
                 value = ("stuck", some, rows)
                 self.assertIs(shows_flow(guard, lot, value), right_flow(guard, lot, value))
                 self.assertIs(shows_fewest_layers(guard, lot, value), set(some) <= set(lot), (some, lot))
-        for value in (("stuck", (), ()), ("stuck", (0,), ("XIII",)), ("stuck", (0, 1), ("XXII",)), ("stuck", (0, 1), ("XXII", "ZZII")),
+        for value in (("stuck", (), ()), ("stuck", (0,), ("XIII",)), ("stuck", (0, 1), ("XXII",)),
+                      ("stuck", (0, 1), ("XXII", "ZZII")),
                       ("stuck", (0, 1), ("XXXX", "XXII")), ("stuck", (1, 0), both), ("stuck", (0, 1), list(both)),
                       ("stuck", (False, 1), both), ("stuck", (0, 4), both), ("stuck", (0, 1), ("XXII", "IXXI"))):
             self.assertIs(shows_flow(guard, (0, 1, 2, 3), value), False, value)
@@ -144,7 +151,8 @@ class Flows(Checking):
         """As few lots as can be, but any such; more lots do not do, nor words that do not spare their own layer."""
         told = fewest_layers(TWICE, (0, 2))
         self.assertEqual(told, ("layers", ((0, 2),), (("+ZXII", "+IIZX"),)))
-        for value in (("layers", ((0,), (2,)), (("+ZXII",), ("+IIZX",))), ("layers", ((2,), (0,)), (("+IIZX",), ("+ZXII",))),
+        for value in (("layers", ((0,), (2,)), (("+ZXII",), ("+IIZX",))),
+                      ("layers", ((2,), (0,)), (("+IIZX",), ("+ZXII",))),
                       ("layers", ((0, 2), ()), (("+ZXII", "+IIZX"), ())), ("layers", ((2, 0),), (("+IIZX", "+ZXII"),)),
                       ("layers", ((0, 2),), (("+ZXZX", "+IIZX"),)), ("layers", ((0, 2),), (("-ZXII", "+IIZX"),)),
                       ("layers", ((0, 2),), (("+IIZX", "+ZXII"),)), ("layers", [(0, 2)], (("+ZXII", "+IIZX"),)),
@@ -166,7 +174,8 @@ class Flows(Checking):
             self.assertEqual(flow(guard, ()), ("flow", (), ()))
             self.assertEqual(fewest_layers(guard, ()), ("layers", (), ()))
             self.assertEqual(owed(guard, (), (), ""), ("", "I" * guard.wires))
-            for value in (("flow", (), ()), ("layers", (), ()), ("stuck", (), ()), ("flow", [], ()), ("flow", (), []), ("flow", ()),
+            for value in (("flow", (), ()), ("layers", (), ()), ("stuck", (), ()), ("flow", [], ()), ("flow", (), []),
+                          ("flow", ()),
                           ("layers", ((),), ((),)), ("stuck", (0,), ("X" + "I" * (guard.wires - 1),))):
                 self.assertIs(shows_flow(guard, (), value), value == ("flow", (), ()), value)
                 self.assertIs(shows_fewest_layers(guard, (), value), value == ("layers", (), ()), value)
@@ -311,8 +320,10 @@ class Flows(Checking):
                 self.check_bad_flow(ROW, wires, value, "++")
             if not is_any_flow(ROW, value, value):
                 self.check_bad_flow(ROW, value, value, 0)
-        for some in (((1, 0), words), ((1, 0), words[::-1]), ((0, 0), words), ((0, 1), ("-ZXZ", "+IZX")), ((0,), words), ((0, 1), words[:1]),
-                     ((True,), ("+IZX",)), ((0, 1), ("+ZXZ", "+ZYY")), ((3,), ("+ZXZ",)), ((-1,), ("+IZX",)), ((2,), ("+ZXI",))):
+        for some in (((1, 0), words), ((1, 0), words[::-1]), ((0, 0), words), ((0, 1), ("-ZXZ", "+IZX")),
+                     ((0,), words), ((0, 1), words[:1]),
+                     ((True,), ("+IZX",)), ((0, 1), ("+ZXZ", "+ZYY")), ((3,), ("+ZXZ",)), ((-1,), ("+IZX",)),
+                     ((2,), ("+ZXI",))):
             self.check_bad_flow(ROW, *some, "++")
 
     def test_bad_heard(self):

@@ -55,7 +55,8 @@ FUNCTIONS = {
 
 # For each class its module, parameters, attributes, and methods with their parameters; * is ahead of those that are passed by name.
 CLASSES = {
-    "Guard": ("guards", "text", "text wires words kept", "with_word word, without number, __len__, __contains__, __eq__"),
+    "Guard": ("guards", "text", "text wires words kept",
+              "with_word word, without number, __len__, __contains__, __eq__"),
     "Machine": ("machine", "guard", "first guard marks read spoilt done",
                 "mark name word, gate gate, look word, flip letters, lose lot, bring guard, off name lot, shows_off name lot value, told_by lot, "
                 "undo, redo, trial, keep, tried look *keep, copy, __len__, __contains__, __eq__"),

@@ -11,7 +11,8 @@ from tests.checking import Checking, junk, random_guard, some_guard
 from tests.oracle_live import Model, deed_of, line_of, wrong_line
 from tests.test_machine import FOUR, random_deed, refused
 
-TEXT = "\n".join(["wires 4", "guard +XXXX", "guard +ZZZZ", "machine", "mark a +XXII", "mark b +ZIZI", "look +ZIII", "lose 2", "gate h 1",
+TEXT = "\n".join(["wires 4", "guard +XXXX", "guard +ZZZZ", "machine", "mark a +XXII", "mark b +ZIZI", "look +ZIII",
+                  "lose 2", "gate h 1",
                   "bring 1 +X", "flip XXXXX", "lose 0 3 4", "gate cx 0 1"])
 
 
@@ -45,7 +46,8 @@ class Journals(Checking):
         machine = read_journal(text)
         self.assertIsInstance(machine, Machine)
         self.assertEqual(frozenset(group(machine.guard)), model.those)
-        self.assertEqual(([name for name, _ in machine.marks], dict(machine.read), set(machine.spoilt)), (sorted(model.marks), model.read, model.spoilt))
+        self.assertEqual(([name for name, _ in machine.marks], dict(machine.read), set(machine.spoilt)),
+                         (sorted(model.marks), model.read, model.spoilt))
         self.assertEqual(journal(machine), text)
         return True
 
@@ -59,7 +61,8 @@ class Journals(Checking):
             self.assertTrue(self.check_text(text))
             for number in range(min(3, machine.done)):
                 machine.undo()
-                self.assertEqual(journal(machine), "\n".join([machine.first.text, "machine"] + lines[:len(lines) - 1 - number]))
+                self.assertEqual(journal(machine),
+                                 "\n".join([machine.first.text, "machine"] + lines[:len(lines) - 1 - number]))
 
     def test_what_is_read_back(self):
         """A machine that is read back is as the other one, and can be taken back to the beginning."""
@@ -85,7 +88,8 @@ class Journals(Checking):
         machine.lose((0, 2, 3))
         machine.bring(Guard("wires 1"))
         machine.bring(Guard("wires 1\nguard -Y"))
-        self.assertEqual(journal(machine).split("\n")[3:], ["machine", "mark a -XXII", "gate swap 3 0", "look +XXXX", "flip IIII", "lose 0 2 3", "bring 1", "bring 1 -Y"])
+        self.assertEqual(journal(machine).split("\n")[3:], ["machine", "mark a -XXII", "gate swap 3 0", "look +XXXX",
+                                                            "flip IIII", "lose 0 2 3", "bring 1", "bring 1 -Y"])
         other = Machine(Guard("wires 1"))
         other.bring(Guard("wires 3\nguard +XZI\nguard -ZXI"))
         self.assertEqual(journal(other), "wires 1\nmachine\nbring 3 +XZI -ZXI")
@@ -101,13 +105,17 @@ class Journals(Checking):
 
     def test_no_line_machine(self):
         """The number of lines and one, whatever else is wrong."""
-        for text, number in (("", 2), ("wires 1", 2), ("wires 1\n", 3), ("\n\n", 4), ("wires 9\nfoo", 3), ("machine ", 2), (" machine", 2), ("Machine\nwires 1", 3),
-                             ("wires 1\nguard +X\nmachines\nmark a +Z", 5), ("wires 1\nmachine machine", 3), (FOUR.text, 4), ("machinemachine", 2)):
+        for text, number in (("", 2), ("wires 1", 2), ("wires 1\n", 3), ("\n\n", 4), ("wires 9\nfoo", 3),
+                             ("machine ", 2), (" machine", 2), ("Machine\nwires 1", 3),
+                             ("wires 1\nguard +X\nmachines\nmark a +Z", 5), ("wires 1\nmachine machine", 3),
+                             (FOUR.text, 4), ("machinemachine", 2)):
             self.check_bad(text, number)
 
     def test_guard_lines(self):
-        for lines, number in (([], 1), (["wires 7"], 1), ([""], 1), (["wires 1", ""], 2), (["wires 1", "guard +X", "guard +Z"], 3), (["guard +X"], 1),
-                              (["wires 1", "guard X"], 2), (["wires 2", "guard +XX", "guard +ZZ", "guard +YY"], 4), (["wires 02"], 1), (["wires 1 "], 1),
+        for lines, number in (([], 1), (["wires 7"], 1), ([""], 1), (["wires 1", ""], 2),
+                              (["wires 1", "guard +X", "guard +Z"], 3), (["guard +X"], 1),
+                              (["wires 1", "guard X"], 2), (["wires 2", "guard +XX", "guard +ZZ", "guard +YY"], 4),
+                              (["wires 02"], 1), (["wires 1 "], 1),
                               (["wires 2", "mark a +XX"], 2), (["wires 2", "guard  +XX"], 2)):
             for more in ([], ["foo"], ["machine"], [""], ["mark a +X", ""]):
                 self.check_bad("\n".join(lines + ["machine"] + more), number)
@@ -115,12 +123,19 @@ class Journals(Checking):
     def test_a_wrong_line_at_each_place(self):
         lines = TEXT.split("\n")
         self.assertTrue(self.check_text(TEXT))
-        wrong = ["", " ", "foo", "machine", "wires 4", "guard +XXXX", "undo", "redo", "marks", "kind +XXXX", "mark", "mark a", "mark z +XXII +ZZII", "mark  z +XXII",
-                 "mark z  +XXII", " mark z +XXII", "mark z +XXII ", "MARK z +XXII", "mark Z +XXII", "mark abcdefghi +XXII", "mark z XXII", "mark z +XXX", "mark z1 +XXII",
-                 "gate", "gate ", "gate h", "gate h 9", "gate h  0", "gate h 0 1", "gate H 0", "gate cx 0", "gate cx 0 0", "gate cx 0 1 ", "gate h 00", "gate h -0",
-                 "look", "look XXXX", "look +X", "look + XXXX", "look +XXXX +XXXX", "flip", "flip +XXXX", "flip XX", "flip XXXX XXXX", "flip I I I I",
-                 "lose", "lose ", "lose 9", "lose -1", "lose 1 0", "lose 0 0", "lose 00", "lose 01", "lose +1", "lose 0  1", "lose 0,1", "lose 0 1 ", "lose a", "lose 1.0", "lose -0",
-                 "bring", "bring ", "bring 0", "bring 7", "bring 6", "bring x", "bring 01 +X", "bring 1 X", "bring 1 +X +Z", "bring 1 +X -X", "bring 1 +XX", "bring -1", "bring 1  +X",
+        wrong = ["", " ", "foo", "machine", "wires 4", "guard +XXXX", "undo", "redo", "marks", "kind +XXXX", "mark",
+                 "mark a", "mark z +XXII +ZZII", "mark  z +XXII",
+                 "mark z  +XXII", " mark z +XXII", "mark z +XXII ", "MARK z +XXII", "mark Z +XXII",
+                 "mark abcdefghi +XXII", "mark z XXII", "mark z +XXX", "mark z1 +XXII",
+                 "gate", "gate ", "gate h", "gate h 9", "gate h  0", "gate h 0 1", "gate H 0", "gate cx 0",
+                 "gate cx 0 0", "gate cx 0 1 ", "gate h 00", "gate h -0",
+                 "look", "look XXXX", "look +X", "look + XXXX", "look +XXXX +XXXX", "flip", "flip +XXXX", "flip XX",
+                 "flip XXXX XXXX", "flip I I I I",
+                 "lose", "lose ", "lose 9", "lose -1", "lose 1 0", "lose 0 0", "lose 00", "lose 01", "lose +1",
+                 "lose 0  1", "lose 0,1", "lose 0 1 ", "lose a", "lose 1.0", "lose -", "lose --1", "lose 0 -",
+                 "bring -", "lose -0",
+                 "bring", "bring ", "bring 0", "bring 7", "bring 6", "bring x", "bring 01 +X", "bring 1 X",
+                 "bring 1 +X +Z", "bring 1 +X -X", "bring 1 +XX", "bring -1", "bring 1  +X",
                  "bring +X", "bring 1 +X ", "bring 2 +XX +ZZ +YY", "bring 1.0 +X", "lookup +XXXX", "look\t+XXXX"]
         for line in wrong:
             for place in range(4, len(lines) + 1):
@@ -133,9 +148,12 @@ class Journals(Checking):
     def test_refused_lines(self):
         """Lines of the right form that are refused where they stand, though they might stand elsewhere."""
         start = ["wires 2", "guard +ZZ", "machine"]
-        for lines in (["mark a +XI"], ["mark a +ZZ"], ["mark a +II"], ["mark a +XX", "mark a +ZI"], ["mark a +XX", "look +XX", "mark a +XX"], ["look -ZZ"],
-                      ["gate x 0", "look +ZZ"], ["look +XX", "look -XX"], ["lose 2"], ["bring 5"], ["bring 2", "bring 3"], ["mark a +XX", "bring 1", "mark b +XX"],
-                      ["mark a +XX", "mark b +XX", "mark c +XX", "mark d +XX", "mark e +XX", "mark f +XX", "mark g +XX"], ["look -II"],
+        for lines in (["mark a +XI"], ["mark a +ZZ"], ["mark a +II"], ["mark a +XX", "mark a +ZI"],
+                      ["mark a +XX", "look +XX", "mark a +XX"], ["look -ZZ"],
+                      ["gate x 0", "look +ZZ"], ["look +XX", "look -XX"], ["lose 2"], ["bring 5"],
+                      ["bring 2", "bring 3"], ["mark a +XX", "bring 1", "mark b +XX"],
+                      ["mark a +XX", "mark b +XX", "mark c +XX", "mark d +XX", "mark e +XX", "mark f +XX",
+                       "mark g +XX"], ["look -II"],
                       ["mark a +ZI", "look +XX", "mark a +XX"]):
             self.check_bad("\n".join(start + lines), len(start + lines))
             self.check_bad("\n".join(start + lines + ["mark q +XX", ""]), len(start + lines))

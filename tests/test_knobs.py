@@ -5,11 +5,13 @@ from itertools import combinations
 
 from guardedwires import knobs
 from guardedwires.errors import BadRow, BadSome, BadWord, NotKept, Out
+from guardedwires.frames import frame
 from guardedwires.guards import Guard, exchanged, led_guard
 from guardedwires.knobs import depth, quarter_turned, same_row, shows_depth, shows_same_row, working
 from tests import oracle_turns
-from tests.checking import (Checking, all_guards, guard_of, junk, multiplied, near, product_word, random_gates, random_guard)
-from tests.oracle import contrary, is_word, led, some_of, words_cross
+from tests.checking import (Checking, all_guards, guard_of, junk, multiplied, near, product_word, random_gates,
+                            random_guard)
+from tests.oracle import by_letters, contrary, is_word, led, some_of, words_cross
 from tests.oracle_guards import group, is_kept, kept_words, kind_name
 from tests.oracle_turns import (are_apart, depth_lots, do_the_same, first_out, is_names, is_row, right_depth,
                                 right_same_row)
@@ -30,6 +32,17 @@ def random_row(chance, guard, many, names=None):
     kept = sorted(kept_words(guard)) or words
     names = names or chance.sample(NAMES, many)
     return tuple((name, chance.choice(kept if chance.random() < 0.8 else words)) for name in names)
+
+
+def random_row_of_frame(chance, guard, many):
+    """Turns by words that words of a frame make, of any number of wires."""
+    words = [word for pair in frame(guard) for word in pair]
+    made = []
+    while len(made) < many:
+        letters = by_letters([word[1:] for word in chance.sample(words, chance.randrange(1, len(words) + 1))],
+                             guard.wires)
+        made.append(chance.choice("+-") + letters)
+    return tuple(zip(chance.sample(NAMES, many), made))
 
 
 def liked_row(chance, guard, row):
@@ -59,7 +72,8 @@ def near_row(chance, guard, row):
     elif turns and kind == 3:
         del turns[place]
     elif len(turns) < 12 and kind == 4:
-        turns.append((chance.choice([name for name in NAMES if name not in dict(turns)]), chance.choice(passing_words(guard))))
+        turns.append((chance.choice([name for name in NAMES if name not in dict(turns)]),
+                      chance.choice(passing_words(guard))))
     else:
         chance.shuffle(turns)
     return tuple(turns)
@@ -78,7 +92,8 @@ class Knobs(Checking):
             guard = some_guard_of(chance)
             row = random_row(chance, guard, turn % 13)
             self.assertEqual(working(guard, row), oracle_turns.working(guard, row))
-        self.assertEqual([working(TWIN, ()), working(TWIN, ONE), working(FREE, (("a", "-I"), ("b", "-X")))], [(), (0, 1), (1,)])
+        self.assertEqual([working(TWIN, ()), working(TWIN, ONE), working(FREE, (("a", "-I"), ("b", "-X")))],
+                         [(), (0, 1), (1,)])
         self.assertEqual(working(Guard("wires 1\nguard +Z"), (("a", "-I"), ("b", "+Z"), ("c", "-Z"))), ())
 
     def test_quarter_turned(self):
@@ -88,23 +103,27 @@ class Knobs(Checking):
             row = random_row(chance, guard, turn % 13)
             words = sorted(kept_words(guard))
             if words:
-                some = tuple(sorted(set(chance.sample([name for name, _ in row] + NAMES[:3], min(len(row) + 1, chance.randrange(6))))))
+                some = tuple(sorted(set(chance.sample([name for name, _ in row] + NAMES[:3],
+                                                      min(len(row) + 1, chance.randrange(6))))))
                 word = chance.choice(words)
                 told = quarter_turned(guard, row, some, word)
                 self.assertEqual(told, oracle_turns.quarter_turned(row, some, word))
                 self.assertTrue(is_kept(guard, told))
 
     def test_one_quarter(self):
-        for turn, goes in (("X", {"X": "+X", "Y": "-Z", "Z": "+Y"}), ("Y", {"X": "+Z", "Y": "+Y", "Z": "-X"}), ("Z", {"X": "-Y", "Y": "+X", "Z": "+Z"})):
+        for turn, goes in (("X", {"X": "+X", "Y": "-Z", "Z": "+Y"}), ("Y", {"X": "+Z", "Y": "+Y", "Z": "-X"}),
+                           ("Z", {"X": "-Y", "Y": "+X", "Z": "+Z"})):
             for letter, came in goes.items():
                 self.assertEqual(quarter_turned(FREE, (("k", "+" + turn),), ("k",), "+" + letter), came)
                 self.assertEqual(quarter_turned(FREE, (("k", "+" + turn),), ("k",), "-" + letter), contrary(came))
                 crosses = letter != turn
-                self.assertEqual(quarter_turned(FREE, (("k", "-" + turn),), ("k",), "+" + letter), contrary(came) if crosses else came)
+                self.assertEqual(quarter_turned(FREE, (("k", "-" + turn),), ("k",), "+" + letter),
+                                 contrary(came) if crosses else came)
                 self.assertEqual(quarter_turned(FREE, (("k", "+" + turn),), (), "+" + letter), "+" + letter)
                 self.assertEqual(quarter_turned(FREE, (("k", "+" + turn),), ("a", "kk"), "+" + letter), "+" + letter)
         row = (("a", "+Z"), ("b", "+X"))
-        self.assertEqual([quarter_turned(FREE, row, some, "+X") for some in (("a",), ("b",), ("a", "b"))], ["-Y", "+X", "+Z"])
+        self.assertEqual([quarter_turned(FREE, row, some, "+X") for some in (("a",), ("b",), ("a", "b"))],
+                         ["-Y", "+X", "+Z"])
         self.assertEqual(quarter_turned(FREE, row[::-1], ("a", "b"), "+X"), "-Y")
 
     def test_four_quarters_are_none(self):
@@ -114,7 +133,8 @@ class Knobs(Checking):
             word, turned = chance.choice(sorted(kept_words(guard))), chance.choice(sorted(kept_words(guard)))
             row = tuple((name, turned) for name in "abcd")
             self.assertEqual(quarter_turned(guard, row, tuple("abcd"), word), word)
-            self.assertEqual(quarter_turned(guard, row, ("a", "c"), word), contrary(word) if words_cross(word, turned) else word)
+            self.assertEqual(quarter_turned(guard, row, ("a", "c"), word),
+                             contrary(word) if words_cross(word, turned) else word)
 
     def test_same_row(self):
         found = set()
@@ -146,7 +166,8 @@ class Knobs(Checking):
             n = 1 + turn % 2
             guard = random_guard(chance, n, chance.randrange(n))
             row = random_row(chance, guard, 3, ["a", "b", "c"])
-            other = chance.choice([liked_row(chance, guard, row), near_row(chance, guard, row), near_row(chance, guard, row[::-1]),
+            other = chance.choice([liked_row(chance, guard, row), near_row(chance, guard, row),
+                                   near_row(chance, guard, row[::-1]),
                                    random_row(chance, guard, 3, ["b", "a", "c"])])
             names = sorted(set(dict(row)) | set(dict(other)))
             apart = any(are_apart(guard, row, other, [names[k] for k in some], word)
@@ -166,8 +187,10 @@ class Knobs(Checking):
         value = ("apart", ("a",), "+XX")
         self.assertIs(shows_same_row(TWIN, ONE, (), value), True)
         for its in (("apart", "a", "+XX"), ("apart", ["a"], "+XX"), ("apart", (), "+XX"), ("apart", ("a", "a"), "+XX"),
-                    ("apart", ("b", "a"), "+XX"), ("apart", ("A",), "+XX"), ("apart", ("a",), "+ZI"), ("apart", ("a",), "+XI"),
-                    ("apart", ("a",), "+ZZ"), ("apart", ("a",), "XX"), ("apart", ("a", 1), "+XX"), ("apart", ("a", ""), "+XX")):
+                    ("apart", ("b", "a"), "+XX"), ("apart", ("A",), "+XX"), ("apart", ("a",), "+ZI"),
+                    ("apart", ("a",), "+XI"),
+                    ("apart", ("a",), "+ZZ"), ("apart", ("a",), "XX"), ("apart", ("a", 1), "+XX"),
+                    ("apart", ("a", ""), "+XX")):
             self.assertIs(shows_same_row(TWIN, ONE, (), its), False, its)
 
     def test_any_places(self):
@@ -176,7 +199,8 @@ class Knobs(Checking):
         other = (("c", "-IZ"), ("b", "+ZI"), ("a", "+IZ"))
         for places in ((0, 1, 0), (1, 0, 1), (0, 1, 0, 0, 0), (1, 1, 0, 1, 0), (0, 1, 0) + (1,) * 600):
             self.assertIs(shows_same_row(TWIN, row, other, ("same", places)), True)
-        for places in ((0, 1), (1, 0), (), (0, 1, 2), (0, 2, 0), (-1, 0), (True, 0, 1), (0, True, 0), ("0", "1", "0"), [0, 1, 0], (0, 1, 0, 0), (0, 1, 0, None)):
+        for places in ((0, 1), (1, 0), (), (0, 1, 2), (0, 2, 0), (-1, 0), (True, 0, 1), (0, True, 0), ("0", "1", "0"),
+                       [0, 1, 0], (0, 1, 0, 0), (0, 1, 0, None)):
             self.assertIs(shows_same_row(TWIN, row, other, ("same", places)), False, places)
         crossing = (("a", "+ZI"), ("b", "+XX"))
         self.assertIs(shows_same_row(TWIN, crossing, crossing, ("same", (0, 0))), False)
@@ -225,10 +249,34 @@ class Knobs(Checking):
                     self.assertLess(*at)
             self.assertEqual(len(chain), len(lots))
 
+    def test_six_wires(self):
+        for turn in range(12):
+            chance = random.Random(turn)
+            guard = random_guard(chance, 6, turn % 6)
+            row = random_row_of_frame(chance, guard, 12 if turn % 2 else 5)
+            other = tuple(chance.sample(row, len(row)))
+            self.assertEqual(working(guard, row), tuple(range(len(row))))
+            self.assertTrue(right_depth(guard, row, depth(guard, row)))
+            told = same_row(guard, row, other)
+            self.assertTrue(right_same_row(guard, row, other, told))
+            self.assertIs(shows_same_row(guard, row, other, told), True)
+            self.assertEqual(same_row(guard, row, row), ("same", ()))
+
+    def test_guards_that_keep_nothing(self):
+        """No turn works there, so all rows do the same."""
+        for turn in range(10):
+            chance = random.Random(turn)
+            guard = random_guard(chance, 1 + turn % 4, 1 + turn % 4)
+            row, other = random_row(chance, guard, 12), random_row(chance, guard, turn % 4)
+            self.assertEqual((working(guard, row), depth(guard, row)), ((), ((), ())))
+            self.assertEqual(same_row(guard, row, other), ("same", ()))
+            self.assertIs(shows_same_row(guard, row, other, ("same", (0,))), False)
+
     def test_names_of_one_letter_and_of_eight(self):
         row = (("z", "+ZI"), ("abcdefgh", "+XX"), ("aa", "+IZ"))
         self.assertEqual(working(TWIN, row), (0, 1, 2))
-        self.assertEqual(quarter_turned(TWIN, row, ("abcdefgh", "z"), "+XX"), oracle_turns.quarter_turned(row, ("abcdefgh", "z"), "+XX"))
+        self.assertEqual(quarter_turned(TWIN, row, ("abcdefgh", "z"), "+XX"),
+                         oracle_turns.quarter_turned(row, ("abcdefgh", "z"), "+XX"))
         for name in ("", "abcdefghi", "A", "a1", "a b", "aB", "a ", "\n", "_", 1, None, ("a",), b"a"):
             self.check_refused(working, (TWIN, row), {1: ((name, "+ZI"),)}, BadRow)
             self.check_refused(quarter_turned, (TWIN, row, (), "+ZI"), {2: (name,)}, BadSome)
@@ -244,7 +292,8 @@ class Knobs(Checking):
             told = same_row(guard, row, other)
             self.assertIs(shows_same_row(base, row, other, told), True)
             wires, gates = tuple(chance.sample(range(4), 4)), random_gates(chance, 4, 9)
-            for its, along in ((exchanged(guard, wires), lambda word: word[0] + "".join(word[1 + wire] for wire in wires)),
+            for its, along in ((exchanged(guard, wires),
+                                lambda word: word[0] + "".join(word[1 + wire] for wire in wires)),
                                (led_guard(guard, gates), lambda word: led(word, gates))):
                 mine, others = [tuple((name, along(word)) for name, word in some) for some in (row, other)]
                 self.assertEqual(working(guard, row), working(its, mine))
@@ -253,18 +302,21 @@ class Knobs(Checking):
                 self.assertIs(shows_same_row(its, mine, others, value), True)
                 word = chance.choice(sorted(kept_words(guard)))
                 some = tuple(sorted(name for name, _ in row[:3]))
-                self.assertEqual(along(quarter_turned(guard, row, some, word)), quarter_turned(its, mine, some, along(word)))
+                self.assertEqual(along(quarter_turned(guard, row, some, word)),
+                                 quarter_turned(its, mine, some, along(word)))
 
     def test_values_of_all_kinds(self):
         for other in (ONE, ONE[::-1], ()):
             self.check_junk(shows_same_row, right_same_row, (TWIN, ONE, other))
             for value in junk():
                 self.check_shows(shows_same_row, right_same_row, (TWIN, ONE, other),
-                                 [("same", value), ("apart", value, "+XX"), ("apart", ("a",), value), ("apart", value, value)])
+                                 [("same", value), ("apart", value, "+XX"), ("apart", ("a",), value),
+                                  ("apart", value, value)])
         self.check_junk(shows_depth, right_depth, (TWIN, ONE))
         self.check_junk(shows_depth, right_depth, (TWIN, ()))
         for value in junk():
-            self.check_shows(shows_depth, right_depth, (TWIN, ONE), [(value, (0, 1)), (((0,), (1,)), value), (value, value)])
+            self.check_shows(shows_depth, right_depth, (TWIN, ONE),
+                             [(value, (0, 1)), (((0,), (1,)), value), (value, value)])
         self.check_shows(shows_depth, right_depth, (TWIN, ONE), [value for value in near((((0,), (1,)), (0, 1)))])
 
     def test_wrong_arguments(self):
@@ -275,8 +327,10 @@ class Knobs(Checking):
         for function, more in ((same_row, ()), (shows_same_row, (0,))):
             self.check_wrong(function, (TWIN, ONE, ()) + more, [None, row, row] + [None] * len(more))
         self.check_wrong(quarter_turned, (TWIN, ONE, ("a",), "+XX"), [None, row, some, word])
-        for value in list(near(ONE)) + [(("a", "+ZI"), ("a", "+XX")), (("a", "+ZI", "+XX"),), (("a",),), ("a", "+ZI"), (["a", "+ZI"],),
-                                        [("a", "+ZI")], (("a", "+ZII"),), (("a", "ZI"),), tuple((name, "+ZI") for name in "abcdefghijklm")]:
+        for value in list(near(ONE)) + [(("a", "+ZI"), ("a", "+XX")), (("a", "+ZI", "+XX"),), (("a",),), ("a", "+ZI"),
+                                        (["a", "+ZI"],),
+                                        [("a", "+ZI")], (("a", "+ZII"),), (("a", "ZI"),),
+                                        tuple((name, "+ZI") for name in "abcdefghijklm")]:
             if not is_row(value, 2):
                 for function, more in ((working, ()), (depth, ()), (same_row, ((),)), (quarter_turned, ((), "+XX"))):
                     self.check_refused(function, (TWIN, ONE) + more, {1: value}, BadRow)
@@ -314,8 +368,10 @@ class Knobs(Checking):
 
     def test_names(self):
         for function, names, args in (
-                (working, "guard row", (TWIN, ONE)), (quarter_turned, "guard row some word", (TWIN, ONE, ("a",), "+XX")),
-                (same_row, "guard row other", (TWIN, ONE, ONE)), (shows_same_row, "guard row other value", (TWIN, ONE, ONE, 0)),
+                (working, "guard row", (TWIN, ONE)), (quarter_turned, "guard row some word",
+                                                      (TWIN, ONE, ("a",), "+XX")),
+                (same_row, "guard row other", (TWIN, ONE, ONE)),
+                                      (shows_same_row, "guard row other value", (TWIN, ONE, ONE, 0)),
                 (depth, "guard row", (TWIN, ONE)), (shows_depth, "guard row value", (TWIN, ONE, 0))):
             self.check_names(function, names, args)
             self.assertEqual(function.__module__, "guardedwires.knobs")

@@ -4,7 +4,8 @@ import inspect
 import random
 
 from guardedwires import errors
-from guardedwires.errors import (BadGate, BadLetters, BadLot, BadName, BadWord, Full, Held, Never, NoMark, NothingToRedo,
+from guardedwires.errors import (BadGate, BadLetters, BadLot, BadName, BadWord, Full, Held, Never, NoMark,
+                                 NothingToRedo,
                                  NothingToUndo, NotKept, NoTrial, Wide, WireError)
 from guardedwires.guards import Guard, exchanged, group, led_guard
 from guardedwires.journals import journal
@@ -35,7 +36,8 @@ def random_deed(chance, model):
     if name == "look":
         kept = kept_of(model) if n < 5 else []
         marked = [word for words in model.marks.values() for word in sorted(words)]
-        return name, (chance.choice([random_word(chance, n)] * 3 + [chance.choice(some) for some in (kept, marked, sorted(model.those)) if some]),)
+        return name, (chance.choice([random_word(chance, n)] * 3 + [chance.choice(some) for some in (kept, marked,
+                sorted(model.those)) if some]),)
     if name == "flip":
         return name, (random_letters(chance, n),)
     if name == "lose":
@@ -72,7 +74,8 @@ class Machines(Checking):
             self.assertEqual(machine.done, deeds)
 
     def told_of(self, machine):
-        return (machine.first, machine.guard, machine.marks, machine.read, machine.spoilt, machine.done, len(machine), journal(machine))
+        return (machine.first, machine.guard, machine.marks, machine.read, machine.spoilt, machine.done, len(machine),
+                journal(machine))
 
     def do_both(self, machine, model, name, args):
         """Do the deed on both; whether it stands. One that is refused is so with the right value, and changes nothing."""
@@ -86,7 +89,8 @@ class Machines(Checking):
         self.assertIs(type(caught.exception), getattr(errors, why[0]))
         self.assertEqual(caught.exception.value, why[1])
         self.assertEqual(self.told_of(machine), ahead)
-        self.assertEqual((model.those, model.marks, model.read, model.spoilt), (was.those, was.marks, was.read, was.spoilt))
+        self.assertEqual((model.those, model.marks, model.read, model.spoilt),
+                         (was.those, was.marks, was.read, was.spoilt))
         return False
 
     def begun(self, turn, most=3):
@@ -126,7 +130,8 @@ class Machines(Checking):
             machine = Machine(guard)
             self.assertIs(machine.first, guard)
             self.assertEqual(group(machine.guard), group(guard))
-            self.assertEqual((machine.marks, machine.read, machine.spoilt, machine.done, len(machine)), ((), (), (), 0, 0))
+            self.assertEqual((machine.marks, machine.read, machine.spoilt, machine.done, len(machine)),
+                             ((), (), (), 0, 0))
             for value in junk():
                 self.assertIs(value in machine, False)
 
@@ -138,9 +143,11 @@ class Machines(Checking):
         for value in junk() + [("a",), ["a"], ("a", "+XXII"), "+XXII", b"a", 0, "a "]:
             self.assertIs(value in machine, False)
         machine.look("+ZZII")
-        self.assertEqual(["a" in machine, "bc" in machine, len(machine), machine.spoilt, machine.read], [True, True, 2, (), ()])
+        self.assertEqual(["a" in machine, "bc" in machine, len(machine), machine.spoilt, machine.read],
+                         [True, True, 2, (), ()])
         machine.look("-XXII")
-        self.assertEqual(["a" in machine, "bc" in machine, len(machine), machine.spoilt, machine.read], [False, False, 0, ("bc",), (("a", "-"),)])
+        self.assertEqual(["a" in machine, "bc" in machine, len(machine), machine.spoilt, machine.read],
+                         [False, False, 0, ("bc",), (("a", "-"),)])
 
     def test_marks(self):
         machine = Machine(FOUR)
@@ -196,7 +203,8 @@ class Machines(Checking):
             for name, word in zip("abcd", ("+XI", "+ZI", "+IX", "-YZ")):
                 machine.mark(name, word)
             machine.gate(gate)
-            self.assertEqual(machine.marks, tuple((name, led(word, (gate,))) for name, word in zip("abcd", ("+XI", "+ZI", "+IX", "-YZ"))))
+            self.assertEqual(machine.marks, tuple((name, led(word, (gate,))) for name,
+                                                  word in zip("abcd", ("+XI", "+ZI", "+IX", "-YZ"))))
 
     def test_flip(self):
         machine = Machine(FOUR)
@@ -261,7 +269,8 @@ class Machines(Checking):
             model = Model(4, guard.words)
             kept = kept_of(model)
             for lot in all_lots(4)[1:]:
-                may = not any(all(letter == "I" or wire in lot for wire, letter in enumerate(word[1:])) for word in kept)
+                may = not any(all(letter == "I" or wire in lot for wire,
+                                  letter in enumerate(word[1:])) for word in kept)
                 machine = Machine(guard)
                 for name, word in zip("abcdef", chance.sample(kept, min(6, len(kept)))):
                     machine.mark(name, word)
@@ -289,7 +298,8 @@ class Machines(Checking):
         machine.mark("a", "-XXII")
         guard = guard_of(2, ("-XZ", "+ZX"))
         machine.bring(guard)
-        self.assertEqual(frozenset(group(machine.guard)), frozenset(group(guard_of(6, ("+XXXXII", "+ZZZZII", "-IIIIXZ", "+IIIIZX")))))
+        self.assertEqual(frozenset(group(machine.guard)),
+                         frozenset(group(guard_of(6, ("+XXXXII", "+ZZZZII", "-IIIIXZ", "+IIIIZX")))))
         self.assertIn("a", machine)
 
     def test_six_wires(self):
@@ -316,8 +326,10 @@ class Machines(Checking):
                 self.assertEqual(machine.told_by(lot), model.told_by(lot))
         machine = Machine(FOUR)
         machine.mark("a", "+XXII")
-        self.assertEqual((machine.off("a", (0, 1)), machine.off("a", (0, 2)), machine.off("a", ())), ("+IIXX", None, "+XXII"))
-        self.assertEqual((machine.told_by((0, 1)), machine.told_by((2, 3)), machine.told_by((0, 2)), machine.told_by(())), (("a",), ("a",), (), ()))
+        self.assertEqual((machine.off("a", (0, 1)), machine.off("a", (0, 2)), machine.off("a", ())),
+                         ("+IIXX", None, "+XXII"))
+        self.assertEqual((machine.told_by((0, 1)), machine.told_by((2, 3)), machine.told_by((0, 2)),
+                          machine.told_by(())), (("a",), ("a",), (), ()))
         for value in junk() + list(near("+IIXX")):
             self.assertIs(machine.shows_off("a", (0, 1), value), value == "+IIXX")
             self.assertIs(machine.shows_off("a", (0, 2), value), value is None)
@@ -329,9 +341,12 @@ class Machines(Checking):
         machine.mark("a", "+XXII")
         machine.mark("gone", "+XXII")
         ahead = self.told_of(machine)
-        checks = {"name": (BadName, is_name), "word": (BadWord, lambda value: is_word(value, 4)), "gate": (BadGate, lambda value: is_in(value, all_gates(4))),
-                  "letters": (BadLetters, lambda value: is_letters(value, 4)), "lot": (BadLot, lambda value: is_numbers(value, 4))}
-        for function, args, kinds in ((machine.gate, ("h 0",), ["gate"]), (machine.look, ("+XXXX",), ["word"]), (machine.flip, ("IIII",), ["letters"]),
+        checks = {"name": (BadName, is_name), "word": (BadWord, lambda value: is_word(value, 4)),
+                  "gate": (BadGate, lambda value: is_in(value, all_gates(4))),
+                  "letters": (BadLetters, lambda value: is_letters(value, 4)),
+                  "lot": (BadLot, lambda value: is_numbers(value, 4))}
+        for function, args, kinds in ((machine.gate, ("h 0",), ["gate"]), (machine.look, ("+XXXX",), ["word"]),
+                                      (machine.flip, ("IIII",), ["letters"]),
                                       (machine.told_by, ((0,),), ["lot"]), (machine.lose, ((0,),), ["lot"])):
             self.check_wrong(function, args, [checks[kind] for kind in kinds])
         machine = Machine(FOUR)
@@ -354,7 +369,8 @@ class Machines(Checking):
         for value in ((), [], (4,), (1, 0), (0, 0), (True,), [0], 0, "0", None):
             self.check_refused(machine.lose, (value,), {0: value}, BadLot)
         self.assertEqual(machine.told_by(()), ())
-        for value in ("h 4", "h", "h  0", "cx 0 0", "cx 0", "H 0", "h 0 ", "h 00", "h -1", "swap 0 4", ("h 0",), ["h 0"], "h 0\n", ""):
+        for value in ("h 4", "h", "h  0", "cx 0 0", "cx 0", "H 0", "h 0 ", "h 00", "h -1", "swap 0 4", ("h 0",),
+                      ["h 0"], "h 0\n", ""):
             self.check_refused(machine.gate, (value,), {0: value}, BadGate)
         self.assertEqual(self.told_of(machine)[1:], ahead[1:])
 
@@ -407,8 +423,10 @@ class Machines(Checking):
         machine.mark("a", "+XXII")
         machine.gate("h 0")
         machine.undo()
-        for name, args in (("mark", ("a", "+XXII")), ("mark", ("b", "+XIII")), ("gate", ("h 9",)), ("look", ("-XXXX",)), ("look", (0,)), ("flip", ("",)),
-                           ("lose", ((),)), ("bring", (Guard("wires 3"),)), ("off", ("z", ())), ("shows_off", ("z", (), 0)), ("told_by", (0,)), ("keep", ())):
+        for name, args in (("mark", ("a", "+XXII")), ("mark", ("b", "+XIII")), ("gate", ("h 9",)),
+                           ("look", ("-XXXX",)), ("look", (0,)), ("flip", ("",)),
+                           ("lose", ((),)), ("bring", (Guard("wires 3"),)), ("off", ("z", ())),
+                           ("shows_off", ("z", (), 0)), ("told_by", (0,)), ("keep", ())):
             with self.assertRaises(WireError):
                 getattr(machine, name)(*args)
         machine.redo()
@@ -446,21 +464,26 @@ class Machines(Checking):
 
     def test_names_of_arguments(self):
         machine = Machine(guard=FOUR)
-        wanted = {"mark": "name word", "gate": "gate", "look": "word", "flip": "letters", "lose": "lot", "bring": "guard", "off": "name lot",
-                  "shows_off": "name lot value", "told_by": "lot", "undo": "", "redo": "", "trial": "", "keep": "", "tried": "look keep", "copy": ""}
+        wanted = {"mark": "name word", "gate": "gate", "look": "word", "flip": "letters", "lose": "lot",
+                  "bring": "guard", "off": "name lot",
+                  "shows_off": "name lot value", "told_by": "lot", "undo": "", "redo": "", "trial": "", "keep": "",
+                  "tried": "look keep", "copy": ""}
         for name, names in wanted.items():
             self.assertIn(name, vars(Machine))
-            self.assertEqual(list(inspect.signature(getattr(machine, name)).parameters), names.split(" ") if names else [])
+            self.assertEqual(list(inspect.signature(getattr(machine, name)).parameters),
+                             names.split(" ") if names else [])
         self.assertIs(inspect.signature(machine.tried).parameters["keep"].kind, inspect.Parameter.KEYWORD_ONLY)
         self.assertIs(inspect.signature(machine.tried).parameters["keep"].default, False)
         self.assertEqual(Machine.__module__, "guardedwires.machine")
         machine.mark(word="+XXII", name="a")
-        self.assertEqual([machine.gate(gate="h 0"), machine.look(word="+XIII"), machine.flip(letters="XIII"), machine.lose(lot=(3,)),
+        self.assertEqual([machine.gate(gate="h 0"), machine.look(word="+XIII"), machine.flip(letters="XIII"),
+                          machine.lose(lot=(3,)),
                           machine.bring(guard=Guard("wires 1")), machine.done], [None] * 5 + [6])
         self.assertEqual(machine.told_by(lot=()), ())
         machine = Machine(FOUR)
         machine.mark("a", "+XXII")
-        self.assertEqual((machine.off(lot=(0, 1), name="a"), machine.shows_off(value="+IIXX", lot=(0, 1), name="a")), ("+IIXX", True))
+        self.assertEqual((machine.off(lot=(0, 1), name="a"), machine.shows_off(value="+IIXX", lot=(0, 1), name="a")),
+                         ("+IIXX", True))
         self.assertIs(machine.tried(look=lambda its: its), machine)
         with self.assertRaises(TypeError):
             machine.tried(len, True)
@@ -487,7 +510,8 @@ class Machines(Checking):
                         its = args[:-1] + (along(args[-1]),)
                     getattr(moved, name)(*its)
             for machine in (other, moved):
-                self.assertEqual((one.read, one.spoilt, len(one), one.guard.kept), (machine.read, machine.spoilt, len(machine), machine.guard.kept))
+                self.assertEqual((one.read, one.spoilt, len(one), one.guard.kept),
+                                 (machine.read, machine.spoilt, len(machine), machine.guard.kept))
             self.assertEqual(group(one.guard), group(other.guard))
             self.assertEqual(group(exchanged(one.guard, wires)), group(moved.guard))
 
@@ -515,7 +539,8 @@ class Blocks(Checking):
 
     def told(self, machine=None):
         machine = machine or self.machine
-        return (machine.first, machine.guard, machine.marks, machine.read, machine.spoilt, machine.done, journal(machine))
+        return (machine.first, machine.guard, machine.marks, machine.read, machine.spoilt, machine.done,
+                journal(machine))
 
     def check_as_it_was(self, ahead):
         """That it is as it was, also in what can be undone and done again."""
@@ -634,6 +659,26 @@ class Blocks(Checking):
         self.machine.undo()
         self.machine.redo()
         self.assertEqual(self.told(), ahead)
+        # What can be done again is so as it was when the block was entered.
+        block = self.machine.trial()
+        self.machine.undo()
+        with block:
+            self.machine.flip("ZIII")
+        self.machine.redo()
+        self.assertEqual(self.told(), ahead)
+        with self.assertRaises(NothingToRedo):
+            self.machine.redo()
+
+    def test_a_block_belongs_to_the_one_in_which_it_is_entered(self):
+        block = self.machine.trial()
+        with self.machine.trial():
+            with block:
+                self.machine.gate("h 1")
+                self.machine.keep()
+            self.machine.keep()
+        self.assertEqual(journal(self.machine).split("\n")[-1], "gate h 1")
+        with self.assertRaises(NoTrial):
+            self.machine.keep()
 
     def test_blocks_within_blocks(self):
         """Each way to keep some of three blocks: what stands are the deeds of those that are kept, and all around them."""
@@ -884,8 +929,10 @@ class Copies(Checking):
             self.assertIs(value == machine, type(value) is Machine)
 
     def test_each_class_defines_its_methods(self):
-        for name in ("mark", "gate", "look", "flip", "lose", "bring", "off", "shows_off", "told_by", "undo", "redo", "trial", "keep", "tried",
+        for name in ("mark", "gate", "look", "flip", "lose", "bring", "off", "shows_off", "told_by", "undo", "redo",
+                     "trial", "keep", "tried",
                      "copy", "__len__", "__contains__", "__eq__", "guard", "marks", "read", "spoilt", "done"):
             self.assertIn(name, vars(Machine))
         self.assertEqual(Machine.__mro__, (Machine, object))
-        self.assertEqual([hasattr(Machine(FOUR), name) for name in ("first", "guard", "marks", "read", "spoilt", "done")], [True] * 6)
+        self.assertEqual([hasattr(Machine(FOUR), name) for name in ("first", "guard", "marks", "read", "spoilt",
+                                                                    "done")], [True] * 6)

@@ -66,8 +66,10 @@ class Offers(Checking):
     def test_what_counts(self):
         one = Guard("wires 1\nguard +Z")
         self.assertEqual(choices(one, (("look", "-Z", 1),)), ((),))
-        self.assertEqual(choices(one, (("gate", "x 0", 1), ("look", "-Z", 1))), ((), (("gate", "x 0", 1),), (("gate", "x 0", 1), ("look", "-Z", 1))))
-        self.assertEqual(choices(one, (("leave", 0, 1), ("look", "-Z", 1)))[1:], ((("leave", 0, 1),), (("leave", 0, 1), ("look", "-Z", 1))))
+        self.assertEqual(choices(one, (("gate", "x 0", 1), ("look", "-Z", 1))),
+                         ((), (("gate", "x 0", 1),), (("gate", "x 0", 1), ("look", "-Z", 1))))
+        self.assertEqual(choices(one, (("leave", 0, 1), ("look", "-Z", 1)))[1:],
+                         ((("leave", 0, 1),), (("leave", 0, 1), ("look", "-Z", 1))))
         # The looks stand as tuples do: +X is looked at ahead of -X and of +Z.
         self.assertEqual(len(choices(one, (("look", "+X", 1), ("look", "-X", 1)))), 3)
         self.assertEqual(len(choices(one, (("look", "+X", 1), ("look", "-Z", 1)))), 3)
@@ -97,7 +99,8 @@ class Offers(Checking):
         self.assertEqual(by(guard, (("leave", 0, 1), ("leave", 1, 1))).words, ("+IIZ",))
         self.assertEqual(by(guard, (("leave", 0, 1), ("leave", 1, 1), ("leave", 2, 1))).words, ())
         self.assertEqual(group(by(guard, (("gate", "h 0", 1), ("leave", 1, 1)))), group(guard_of(3, ("+XII", "+IIZ"))))
-        self.assertEqual(group(by(guard, (("gate", "h 0", 1), ("look", "-ZII", 1)))), group(guard_of(3, ("-ZII", "+IZI", "+IIZ"))))
+        self.assertEqual(group(by(guard, (("gate", "h 0", 1), ("look", "-ZII", 1)))),
+                         group(guard_of(3, ("-ZII", "+IZI", "+IIZ"))))
         both = (("gate", "h 0", 1), ("gate", "s 0", 1))
         self.assertEqual(by(Guard("wires 1\nguard +Z"), both).words, ("+Y",))
         # The word of a look is not led by gates.
@@ -135,7 +138,9 @@ class Offers(Checking):
             guard = random_guard(chance, 4, turn % 5)
             wires = tuple(chance.sample(range(4), 4))
             choice = tuple(offer for offer in random_offers(chance, guard, 2) if offer[0] != "gate")
-            along = tuple(sorted((name, what if name == "leave" else what[0] + "".join(what[1 + wire] for wire in wires), price)
+            along = tuple(sorted((name,
+                                  what if name == "leave" else what[0] + "".join(what[1 + wire] for wire in wires),
+                                  price)
                                  for name, what, price in choice))
             if len([1 for offer in choice if offer[0] == "look"]) < 2 and group_by(guard, choice) is not None:
                 self.assertEqual(group(exchanged(by(guard, choice), wires)), group(by(exchanged(guard, wires), along)))
@@ -159,11 +164,16 @@ class Offers(Checking):
     def test_wrong_arguments(self):
         self.check_wrong(choices, (FOUR, BIDS), [None, (BadOffers, lambda value: is_offers(FOUR, value))])
         self.check_wrong(by, (FOUR, BIDS[:2]), [None, (BadChoice, lambda value: value == () and type(value) is tuple)])
-        bad = [(), BIDS[::-1], list(BIDS), BIDS + BIDS, (("leave", 2, 1),), (("leave", True, 1),), (("leave", -1, 1),), (("leave", "0", 1),),
-               (("look", "XXII", 1),), (("look", "+XX", 1),), (("gate", "h 4", 1),), (("gate", "h  0", 1),), (("gate", ("h 0",), 1),),
-               (("gate", "h 0", 1), ("gate", "h 0", 2)), (("leave", 0, 1), ("leave", 0, 1)), (("stay", 0, 1),), (("look", "+XXII"),),
-               (["look", "+XXII", 1],), ("look", "+XXII", 1), (("look", "+XXII", 1, 1),), (("LOOK", "+XXII", 1),), (("leave", 1, 1), ("leave", 0, 1)),
-               (("look", "+XXII", 1), ("leave", 0, 1)), tuple(("gate", gate, 1) for gate in ("h 0", "h 1", "h 2", "h 3", "s 0"))]
+        bad = [(), BIDS[::-1], list(BIDS), BIDS + BIDS, (("leave", 2, 1),), (("leave", True, 1),), (("leave", -1, 1),),
+               (("leave", "0", 1),),
+               (("look", "XXII", 1),), (("look", "+XX", 1),), (("gate", "h 4", 1),), (("gate", "h  0", 1),),
+               (("gate", ("h 0",), 1),),
+               (("gate", "h 0", 1), ("gate", "h 0", 2)), (("leave", 0, 1), ("leave", 0, 1)), (("stay", 0, 1),),
+               (("look", "+XXII"),),
+               (["look", "+XXII", 1],), ("look", "+XXII", 1), (("look", "+XXII", 1, 1),), (("LOOK", "+XXII", 1),),
+               (("leave", 1, 1), ("leave", 0, 1)),
+               (("look", "+XXII", 1), ("leave", 0, 1)),
+               tuple(("gate", gate, 1) for gate in ("h 0", "h 1", "h 2", "h 3", "s 0"))]
         for value in bad + list(near(BIDS)):
             if not is_offers(FOUR, value):
                 self.check_refused(choices, (FOUR, BIDS), {1: value}, BadOffers)

@@ -100,7 +100,8 @@ class Turning(Checking):
             other = chance.choice([chance.choice(all_nets(many)), chance.choice(sorted(far(many, net)))])
             lots = [("apart", lot) for lot in all_lots(many)]
             ways = [("turns", (wire,), ()) for wire in range(many)] + [("turns", (), ())]
-            self.check_told(one_net, shows_one_net, right_one_net, (many, net, other), chance.sample(lots, 2) + ways[-2:], most=40)
+            self.check_told(one_net, shows_one_net, right_one_net, (many, net, other),
+                            chance.sample(lots, 2) + ways[-2:], most=40)
             self.check_shows(shows_one_net, right_one_net, (many, net, other), lots + ways)
 
     def test_other_ways_that_are_as_short(self):
@@ -134,7 +135,8 @@ class Turning(Checking):
             chance = random.Random(turn)
             many = 1 + turn % 5
             net = chance.choice(all_nets(many))
-            others = [(len(other), chance.choice([(), (0,), (0, many - 1)]), other) for other in chance.sample(sorted(far(many, net)), 1)]
+            others = [(len(other), chance.choice([(), (0,), (0, many - 1)]),
+                       other) for other in chance.sample(sorted(far(many, net)), 1)]
             others.append((len(net), (), net))
             self.check_told(fewest_ties, shows_fewest_ties, right_fewest_ties, (many, net), others, most=60)
         self.assertEqual(fewest_ties(5, full(5))[0], 4)
@@ -146,7 +148,8 @@ class Turning(Checking):
             other = tuple(tie for tie in ROUND_THREE if wire in tie)
             self.assertIs(shows_fewest_ties(3, ROUND_THREE, (2, (wire,), other)), True)
             for value in ((2, (), other), (2, (wire, wire, wire), other), (3, (wire,), other), (True, (wire,), other),
-                          (2, ((wire + 1) % 3,), other), (3, (), ROUND_THREE), (2, (wire,), list(other))):
+                          (2, ((wire + 1) % 3,), other), (3, (), ROUND_THREE), (2, (), ROUND_THREE),
+                          (2, (wire,), list(other))):
                 self.assertIs(shows_fewest_ties(3, ROUND_THREE, value), False)
 
     def test_looked_net(self):
@@ -205,7 +208,8 @@ class Turning(Checking):
 
     def test_single_gates_and_the_lone_wire(self):
         right = ((), ("h 1",))
-        for value in (((), ("h 1", "cz 0 2", "cz 0 2")), ((), ["h 1"]), ([], ("h 1",)), [(), ("h 1",)], ((), ("h 1",), ()),
+        for value in (((), ("h 1", "cz 0 2", "cz 0 2")), ((), ["h 1"]), ([], ("h 1",)), [(), ("h 1",)],
+                      ((), ("h 1",), ()),
                       ((), ("h 1",) + ("x 0",) * 60), (SHORT, ("h 1",)), (((0, 2),), ("h 1",)), ((), ()), ((),)):
             self.assertIs(shows_looked_net(3, SHORT, 1, "+Z", value), False, value)
         self.assertIs(shows_looked_net(3, SHORT, 1, "+Z", right), True)

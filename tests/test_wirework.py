@@ -19,8 +19,10 @@ PAIR, TWIN = Guard("wires 2\nguard +XX\nguard +ZZ"), Guard("wires 2\nguard +ZZ")
 FOUR = Guard("wires 4\nguard +XXXX\nguard +ZZZZ")
 FIVE = Guard("wires 5\nguard +XZZXI\nguard +IXZZX\nguard +XIXZZ\nguard +ZXIXZ")
 FIRM = (("+XX", "+ZI"),)
-GUARDS = [PAIR, TWIN, FOUR, Guard("wires 3\nguard +ZZI\nguard +IZZ"), Guard("wires 3\nguard +XXX\nguard +ZZI\nguard +IZZ"),
-          Guard("wires 1"), Guard("wires 2"), Guard("wires 3"), Guard("wires 1\nguard -Y"), Guard("wires 4\nguard +XZII\nguard +ZXII")]
+GUARDS = [PAIR, TWIN, FOUR, Guard("wires 3\nguard +ZZI\nguard +IZZ"),
+          Guard("wires 3\nguard +XXX\nguard +ZZI\nguard +IZZ"),
+          Guard("wires 1"), Guard("wires 2"), Guard("wires 3"), Guard("wires 1\nguard -Y"),
+          Guard("wires 4\nguard +XZII\nguard +ZXII")]
 
 
 def random_turns(chance, n):
@@ -62,11 +64,13 @@ class Wirework(Checking):
             self.assertTrue(right_keeps(guard, turns, told), (guard.text, turns, told))
             self.assertEqual(told[0] == "keeps", turns in all_keeping(guard.text))
             self.assertEqual(told[0] == "keeps", oracle_turns.keep(guard, turns))
-            others = [("out", number, letters) for number in range(len(guard)) for letters in sorted(passing_guard(guard))]
+            others = [("out", number,
+                       letters) for number in range(len(guard)) for letters in sorted(passing_guard(guard))]
             others = chance.sample(others, min(2, len(others))) + [("keeps", tuple((k,) for k in range(len(guard))))]
             self.check_told(keeps, shows_keeps, right_keeps, (guard, turns), others, most=40)
         self.assertEqual(keeps(Guard("wires 2"), ("YXZ", "ZXY")), ("keeps", ()))
-        self.assertEqual(keeps(guard_of(3, ("-XII", "+IYI", "+IIZ")), ("XZY", "ZYX", "YXZ")), ("keeps", ((0,), (1,), (2,))))
+        self.assertEqual(keeps(guard_of(3, ("-XII", "+IYI", "+IIZ")), ("XZY", "ZYX", "YXZ")),
+                         ("keeps", ((0,), (1,), (2,))))
 
     def test_any_word_that_is_turned_out(self):
         for turn in range(60):
@@ -85,7 +89,8 @@ class Wirework(Checking):
                     guard = guard_of(2, ("+" + letter + "I", "+I" + other))
                     told = keeps(guard, (turn, "XYZ"))
                     self.assertEqual(told[0], "keeps" if its == letter else "out")
-                    free = Guard("wires 2\nguard +" + letter + "X\nguard +" + {"X": "Y", "Y": "Z", "Z": "X"}[letter] + "Z")
+                    free = Guard("wires 2\nguard +" + letter + "X\nguard +" + {"X": "Y", "Y": "Z",
+                            "Z": "X"}[letter] + "Z")
                     self.assertEqual(keeps(free, (turn, "XYZ"))[0] == "keeps", turn == "XYZ")
 
     def test_kept_turns(self):
@@ -126,12 +131,14 @@ class Wirework(Checking):
         for turn in range(8):
             guard = random_guard(random.Random(turn), 5, turn % 6)
             self.assertTrue(right_kept_turns(guard, kept_turns(guard)))
-        self.assertEqual([kept_turns(FIVE)[0], [len(row) for row in kept_turns(FIVE)[1]]], [len(all_keeping(FIVE.text)), [3, 1, 1, 1, 1]])
+        self.assertEqual([kept_turns(FIVE)[0], [len(row) for row in kept_turns(FIVE)[1]]],
+                         [len(all_keeping(FIVE.text)), [3, 1, 1, 1, 1]])
         six = Guard("wires 6")
         self.assertEqual((kept_turns(six)[0], [len(row) for row in kept_turns(six)[1]]), (6 ** 6, [6] * 6))
         self.assertIs(shows_kept_turns(six, kept_turns(six)), True)
         six = guard_of(6, ("+XXXXXX", "+ZZZZZZ"))
-        self.assertEqual(kept_turns(six), (6, (tuple((turn,) * 6 for turn in TURNS),) + tuple((("XYZ",) * 6,) for _ in range(5))))
+        self.assertEqual(kept_turns(six), (6,
+                                           (tuple((turn,) * 6 for turn in TURNS),) + tuple((("XYZ",) * 6,) for _ in range(5))))
         six = guard_of(6, ("+XXXXXX", "+ZZIIII", "+IZZIII", "+IIZZII", "+IIIZZI", "+IIIIZZ"))
         self.assertEqual([kept_turns(six)[0], len(kept_turns(six)[1][0]), len(kept_turns(six)[1][5])], [32, 2, 1])
 
@@ -190,7 +197,9 @@ class Wirework(Checking):
     def test_longer_cases(self):
         """Cases may go on to further wires where they could be out already; they are shown to be cases."""
         wish = ((1,), (0,))
-        told = ("none", ("wires", (("out", 1, "ZI"), ("out", 0, "ZI"), ("out", 1, "ZI"), ("out", 0, "ZI"), ("out", 0, "ZI"), ("out", 0, "ZI"))))
+        told = ("none", ("wires",
+                         (("out", 1, "ZI"), ("out", 0, "ZI"), ("out", 1, "ZI"), ("out", 0, "ZI"), ("out", 0, "ZI"),
+                          ("out", 0, "ZI"))))
         self.assertIs(shows_work(TWIN, FIRM, wish, told), True)
         for place in range(6):
             cases = list(told[1][1])
@@ -204,8 +213,10 @@ class Wirework(Checking):
                 for letters in ("ZI", "IZ", "ZZ", "II", "XX", "XI", "Z", 0):
                     cases[place] = ("out", number, letters)
                     value = ("none", ("wires", tuple(cases)))
-                    self.assertIs(shows_work(TWIN, FIRM, wish, value), right_work(TWIN, FIRM, wish, value), (place, number, letters))
-        for value in (("out", 0, "ZI"), ("none", ("out", 0, "ZI")), ("none", ("out", 1, "ZI")), ("none", ("wires", ())), told[1]):
+                    self.assertIs(shows_work(TWIN, FIRM, wish, value), right_work(TWIN, FIRM, wish, value),
+                                  (place, number, letters))
+        for value in (("out", 0, "ZI"), ("none", ("out", 0, "ZI")), ("none", ("out", 1, "ZI")),
+                      ("none", ("wires", ())), told[1]):
             self.assertIs(shows_work(TWIN, FIRM, wish, value), False)
 
     def test_cases_that_are_bent_at_any_depth(self):
@@ -271,7 +282,8 @@ class Wirework(Checking):
                 told = work(guard, pairs, wish)
                 self.assertEqual(told[0], work(other, mine, wish)[0])
                 if told[0] == "turns":
-                    self.assertIs(shows_work(other, mine, wish, ("turns", tuple(told[1][wire] for wire in wires))), True)
+                    self.assertIs(shows_work(other, mine, wish, ("turns", tuple(told[1][wire] for wire in wires))),
+                                  True)
 
     def test_values_of_all_kinds(self):
         self.check_junk(shows_keeps, right_keeps, (PAIR, ("ZYX", "ZYX")))
@@ -285,8 +297,10 @@ class Wirework(Checking):
                     ("turns", (value, "XYZ")), ("none", ("wires", (("out", 0, value),) * 6))])
         many, rows = kept_turns(PAIR)
         for value in junk():
-            self.check_shows(shows_kept_turns, right_kept_turns, (PAIR,), [(many, value), (value, rows), (many, (value, rows[1])), (many, rows[:1] + (value,))])
-            self.check_shows(shows_keeps, right_keeps, (PAIR, ("ZYX", "XYZ")), [("out", value, "XX"), ("out", 0, value), ("keeps", (value, (0,)))])
+            self.check_shows(shows_kept_turns, right_kept_turns, (PAIR,),
+                             [(many, value), (value, rows), (many, (value, rows[1])), (many, rows[:1] + (value,))])
+            self.check_shows(shows_keeps, right_keeps, (PAIR, ("ZYX", "XYZ")),
+                             [("out", value, "XX"), ("out", 0, value), ("keeps", (value, (0,)))])
 
     def test_wrong_arguments(self):
         turns = (BadTurns, lambda value: is_turns(value, 2))
@@ -297,11 +311,13 @@ class Wirework(Checking):
         self.check_wrong(done_by, (TWIN, FIRM, ("XYZ", "XYZ")), [None, pairs, turns])
         self.check_wrong(work, (TWIN, FIRM, ((0,), (1,))), [None, pairs, wish])
         self.check_wrong(shows_work, (TWIN, FIRM, ((0,), (1,)), 0), [None, pairs, wish, None])
-        for value in list(near(("ZYX", "XYZ"))) + ["XYZ", ("XYZ",), ("XYZ",) * 3, ["XYZ", "XYZ"], ("XYZ", "XXZ"), ("xyz", "XYZ"), ("IXY", "XYZ")]:
+        for value in list(near(("ZYX", "XYZ"))) + ["XYZ", ("XYZ",), ("XYZ",) * 3, ["XYZ", "XYZ"], ("XYZ", "XXZ"),
+                                                   ("xyz", "XYZ"), ("IXY", "XYZ")]:
             if not is_turns(value, 2):
                 self.check_refused(keeps, (TWIN, ("XYZ", "XYZ")), {1: value}, BadTurns)
                 self.check_refused(done_by, (TWIN, FIRM, ("XYZ", "XYZ")), {2: value}, BadTurns)
-        for value in list(near(((0, 1), (1,)))) + [((0,), (1,), ()), ((0,), ()), ((), ()), ((0,), (2,)), ((1, 0), (1,)), ((True,), (0,)), ((0, 0), (1,))]:
+        for value in list(near(((0, 1), (1,)))) + [((0,), (1,), ()), ((0,), ()), ((), ()), ((0,), (2,)),
+                                                   ((1, 0), (1,)), ((True,), (0,)), ((0, 0), (1,))]:
             if not is_work_wish(TWIN, FIRM, value):
                 self.check_refused(work, (TWIN, FIRM, ((0,), (1,))), {2: value}, BadWish)
         self.check_refused(done_by, (TWIN, FIRM, ("XYZ", "XYZ")), {1: (), 2: ()}, BadFrame)
@@ -310,9 +326,11 @@ class Wirework(Checking):
 
     def test_names(self):
         for function, names, args in (
-                (keeps, "guard turns", (PAIR, ("XYZ", "XYZ"))), (shows_keeps, "guard turns value", (PAIR, ("XYZ", "XYZ"), 0)),
+                (keeps, "guard turns", (PAIR, ("XYZ", "XYZ"))),
+                                      (shows_keeps, "guard turns value", (PAIR, ("XYZ", "XYZ"), 0)),
                 (kept_turns, "guard", (PAIR,)), (shows_kept_turns, "guard value", (PAIR, 0)),
-                (done_by, "guard pairs turns", (TWIN, FIRM, ("XYZ", "XYZ"))), (work, "guard pairs wish", (TWIN, FIRM, ((0,), (1,)))),
+                (done_by, "guard pairs turns", (TWIN, FIRM, ("XYZ", "XYZ"))),
+                                      (work, "guard pairs wish", (TWIN, FIRM, ((0,), (1,)))),
                 (shows_work, "guard pairs wish value", (TWIN, FIRM, ((0,), (1,)), 0))):
             self.check_names(function, names, args)
             self.assertEqual(function.__module__, "guardedwires.wirework")

@@ -24,14 +24,16 @@ NAMES = ("lost", "all", "nothing", "flow", "kept", "told", "mended", "keeps")
 
 
 def all_wishes(guard, words):
-    found = [(name, lot) for name in ("lost", "all", "nothing", "flow") for lot in all_lots(guard.wires) if lot or name != "lost"]
+    found = [(name, lot) for name in ("lost", "all", "nothing",
+                                      "flow") for lot in all_lots(guard.wires) if lot or name != "lost"]
     found += [(name, word) for name in ("kept", "told") for word in words]
     return found + [("mended", many) for many in (1, 2, 3)] + [("keeps", many) for many in range(7)]
 
 
 def random_wish(chance, guard):
     words = [random_word(chance, guard.wires)] + sorted(kept_words(guard))[:1] + list(guard.words)
-    return chance.choice([wish for wish in all_wishes(guard, words) if wish[0] == chance.choice(NAMES)] or [("keeps", 0)])
+    return chance.choice([wish for wish in all_wishes(guard, words) if wish[0] == chance.choice(NAMES)] or [("keeps",
+            0)])
 
 
 class Wishes(Checking):
@@ -41,7 +43,9 @@ class Wishes(Checking):
         for guard in all_guards(1) + all_guards(2)[::4] + [FOUR] + [flowing(turn) for turn in range(60)]:
             chance = random.Random(guard.text)
             words = sorted(all_words(guard.wires))
-            for wish in all_wishes(guard, chance.sample(words, min(12, len(words))) + list(guard.words) + sorted(kept_words(guard))[:4]):
+            for wish in all_wishes(guard, chance.sample(words,
+                                                        min(12,
+                                                            len(words))) + list(guard.words) + sorted(kept_words(guard))[:4]):
                 self.assertTrue(is_wish(guard, wish))
                 told = comes_true(guard, wish)
                 self.assertIs(told, oracle_turns.comes_true(guard, wish), (guard.text, wish))
@@ -93,9 +97,11 @@ class Wishes(Checking):
         free = Guard("wires 2")
         self.assertEqual([comes_true(free, ("all", lot)) for lot in ((), (0,), (0, 1))], [False, False, True])
         self.assertEqual([comes_true(free, ("nothing", lot)) for lot in ((), (0,), (0, 1))], [True, False, False])
-        self.assertEqual([comes_true(free, wish) for wish in (("told", "+II"), ("told", "-II"), ("kept", "+II"), ("kept", "-XI"))],
+        self.assertEqual([comes_true(free, wish) for wish in (("told", "+II"), ("told", "-II"), ("kept", "+II"),
+                                                              ("kept", "-XI"))],
                          [True, False, False, True])
-        self.assertEqual([comes_true(free, ("flow", ())), comes_true(free, ("flow", (0,))), comes_true(free, ("keeps", 2))], [True, False, True])
+        self.assertEqual([comes_true(free, ("flow", ())), comes_true(free, ("flow", (0,))),
+                          comes_true(free, ("keeps", 2))], [True, False, True])
 
     def test_bases_and_contraries_and_wires_exchanged(self):
         for turn in range(40):
@@ -115,9 +121,12 @@ class Wishes(Checking):
 
     def test_wrong_arguments(self):
         self.check_wrong(comes_true, (FOUR, ("lost", (0,))), [None, (BadWish, lambda value: is_wish(FOUR, value))])
-        bad = [("lost", ()), ("mended", 0), ("mended", 4), ("mended", True), ("keeps", 7), ("keeps", -1), ("keeps", False), ("kept", "XXII"),
-               ("kept", "+XX"), ("told", ""), ("all", (4,)), ("all", (1, 0)), ("flow", [0]), ("nothing", (True,)), ("lost", 0), ("lose", (0,)),
-               ["lost", (0,)], ("lost",), ("lost", (0,), 1), (("lost", (0,)),), ("Lost", (0,)), ("keeps", "1"), ("keeps", 1.0), (1, "keeps")]
+        bad = [("lost", ()), ("mended", 0), ("mended", 4), ("mended", True), ("keeps", 7), ("keeps", -1),
+               ("keeps", False), ("kept", "XXII"),
+               ("kept", "+XX"), ("told", ""), ("all", (4,)), ("all", (1, 0)), ("flow", [0]), ("nothing", (True,)),
+               ("lost", 0), ("lose", (0,)),
+               ["lost", (0,)], ("lost",), ("lost", (0,), 1), (("lost", (0,)),), ("Lost", (0,)), ("keeps", "1"),
+               ("keeps", 1.0), (1, "keeps")]
         for value in bad:
             self.check_refused(comes_true, (FOUR, ("lost", (0,))), {1: value}, BadWish)
         for name in NAMES:

@@ -22,7 +22,8 @@ class Trial:
         self.now = None
         self.undone = None
         self.outer = None
-        self.stays = False
+        # None until it is kept, not False: the end of a block asks attributes by None alone.
+        self.stays = None
 
     def __enter__(self):
         # What was done since this trial was made stands ahead of the block.
@@ -34,7 +35,7 @@ class Trial:
 
     def __exit__(self, kind, value, trace):
         self.machine.block = self.outer
-        if kind is not None or not self.stays:
+        if kind is not None or self.stays is None:
             self.machine.now = self.now
             self.machine.undone = self.undone
 

@@ -100,23 +100,70 @@ class Files(unittest.TestCase):
                         self.assertIn(handler.type.id, own, name)
 
     def test_classes(self):
-        """Only properties are decorated; blocks stand over a call of an own method; ends of blocks just set attributes."""
+        """Only properties are decorated; blocks stand over a call of an own method."""
         for name, tree in trees():
             for node in ast.walk(tree):
                 if isinstance(node, ast.FunctionDef):
                     self.assertIn([ast.unparse(its) for its in node.decorator_list], ([], ["property"]), name)
                 if isinstance(node, ast.With):
                     self.assertEqual([ast.unparse(item) for item in node.items], ["self.trial()"])
-                if isinstance(node, ast.FunctionDef) and node.name == "__exit__":
-                    allowed = (ast.FunctionDef, ast.arguments, ast.arg, ast.Assign, ast.Attribute, ast.Name, ast.If, ast.BoolOp, ast.Or,
-                               ast.Compare, ast.IsNot, ast.Constant, ast.UnaryOp, ast.Not, ast.Load, ast.Store)
-                    self.assertLessEqual({type(its) for its in ast.walk(node)}, set(allowed))
+
+    def test_ends_of_blocks(self):
+        """They set attributes to attributes alone, under questions for None alone, and read only what kind of error it is."""
+        ends = [node for _, tree in trees() for node in ast.walk(tree)
+                if isinstance(node, ast.FunctionDef) and node.name == "__exit__"]
+        self.assertEqual(len(ends), 1)
+        for end in ends:
+            self.assertEqual([its.arg for its in end.args.args], ["self", "kind", "value", "trace"])
+            self.assertTrue(all([is_plain_end(row) for row in end.body]))
+
+    def test_what_ends_of_blocks_may_not_have(self):
+        for text in ("self.a = self.b.c", "if kind is None:\n  self.a.b = self.c\nelse:\n  pass",
+                     "if kind is not None or not (self.a is None and self.b.c is not None):\n  self.a = self.b"):
+            self.assertTrue(is_plain_end(ast.parse(text).body[0]), text)
+        for test in ("self.a", "not self.a", "kind is not None or not self.a", "kind is None and self.a", "kind", "not kind",
+                     "self.a == True", "self.a is True", "self.a is not False", "self.a is self.b", "None is self.a",
+                     "value is None", "trace is None", "kind.a is None", "self.a() is None", "self.a[0] is None", "self.a > 0"):
+            for part in ("self.b = self.c", "if kind is None:\n    self.b = self.c"):
+                self.assertFalse(is_plain_end(ast.parse(f"if {test}:\n  {part}").body[0]), (test, part))
+        for row in ("self.a = kind", "self.a = value", "self.a = self.b()", "self.a()", "return True", "a = self.b",
+                    "self.a, self.b = self.b, self.a", "self.a[0] = self.b", "self.a += self.b", "for a in self.b:\n  pass"):
+            self.assertFalse(is_plain_end(ast.parse(row).body[0]), row)
+            self.assertFalse(is_plain_end(ast.parse("if kind is None:\n  pass\nelse:\n  " + row.replace("\n", "\n  ")).body[0]))
 
     def test_barred_words(self):
         for path in FILES:
             if path.suffix == ".py":
                 words = set(re.findall(r"\w+", path.read_text(encoding="utf-8")))
                 self.assertEqual([word for word in BARRED if word in words], [], path.name)
+
+
+def is_own_attribute(node):
+    """Whether it is an attribute of self, or of such an attribute."""
+    if not isinstance(node, ast.Attribute):
+        return False
+    return is_own_attribute(node.value) or isinstance(node.value, ast.Name) and node.value.id == "self"
+
+
+def is_none_asked(test):
+    """Whether it asks kind and attributes alone, by `is None` and `is not None` alone, also joined by and, or, not."""
+    if isinstance(test, ast.BoolOp):
+        return all([is_none_asked(part) for part in test.values])
+    if isinstance(test, ast.UnaryOp):
+        return isinstance(test.op, ast.Not) and is_none_asked(test.operand)
+    if not isinstance(test, ast.Compare) or len(test.ops) > 1 or not isinstance(test.ops[0], (ast.Is, ast.IsNot)):
+        return False
+    asked = isinstance(test.left, ast.Name) and test.left.id == "kind" or is_own_attribute(test.left)
+    return asked and isinstance(test.comparators[0], ast.Constant) and test.comparators[0].value is None
+
+
+def is_plain_end(row):
+    """Whether it is a row as the end of a block has it: less than LANGUAGE.md allows, as no more is needed."""
+    if isinstance(row, ast.If):
+        return is_none_asked(row.test) and all([is_plain_end(its) for its in row.body + row.orelse])
+    if isinstance(row, ast.Assign):
+        return len(row.targets) == 1 and is_own_attribute(row.targets[0]) and is_own_attribute(row.value)
+    return isinstance(row, ast.Pass)
 
 
 def bound(tree):
